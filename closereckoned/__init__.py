@@ -1,0 +1,1 @@
+"""What houses can reckon together with curious lots kept close."""
