@@ -1,7 +1,7 @@
 """Which lots are feared, and the greatest of them that do not hold a lot."""
 
 from closereckoned.kinds import is_number, is_within
-from closereckoned.lots import greatest, lots_of
+from closereckoned.lots import every_lot, greatest
 from closereckoned.needs import need, need_fears, need_lot, need_many, need_some_lot
 
 
@@ -39,7 +39,7 @@ def feared_by(fears, lot):
 
 def all_feared(many, fears):
     """The set of all lots that are feared."""
-    return tuple([lot for lot in lots_of(many) if feared_by(fears, lot)])
+    return tuple([lot for lot in every_lot(many) if feared_by(fears, lot)])
 
 
 def blind_to(many, fears, lot):
@@ -49,4 +49,4 @@ def blind_to(many, fears, lot):
 
 def lots_of_few(many, few):
     """The set of all lots of just few houses."""
-    return tuple([lot for lot in lots_of(many) if len(lot) == few])
+    return tuple([lot for lot in every_lot(many) if len(lot) == few])

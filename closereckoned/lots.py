@@ -45,6 +45,15 @@ def greatest(lots):
     return tuple([lot for lot in unlike if not any([is_below(lot, other) for other in unlike])])
 
 
+def every_lot(many):
+    """A tuple of all lots, ascending."""
+    # What an operator or a property runs may go through no generator, so not through lots_of.
+    found = [()]
+    for house in range(many):
+        found = found + [(*lot, house) for lot in found]
+    return tuple(sorted(found))
+
+
 def lot_behind(many, lot):
     """The next lot in ascending order, or None."""
     if len(lot) == 0:

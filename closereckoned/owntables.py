@@ -2,7 +2,7 @@
 
 from closereckoned.kinds import is_bit, right_lot
 from closereckoned.needs import need, need_lot, need_sizes
-from closereckoned.settings import place_in, settings_many, settings_of, values_on
+from closereckoned.settings import every_setting, place_in, settings_many, values_on
 
 
 def is_own(sizes, lot, thing):
@@ -50,7 +50,7 @@ def right_summands(sizes, thing):
 def spread_out(sizes, lot, own):
     """What own has for the choices of each setting on the lot."""
     own_sizes = values_on(sizes, lot)
-    return tuple([own[place_in(own_sizes, values_on(setting, lot))] for setting in settings_of(sizes)])
+    return tuple([own[place_in(own_sizes, values_on(setting, lot))] for setting in every_setting(sizes)])
 
 
 def summed(sizes, bit, summands):

@@ -1,7 +1,7 @@
 """Partings into two feared sides, and the atoms that no parting parts."""
 
 from closereckoned.feardeeds import feared_by
-from closereckoned.lots import lots_of, rest_of
+from closereckoned.lots import every_lot, rest_of
 from closereckoned.needs import need_fears, need_house, need_lot, need_two
 
 
@@ -48,7 +48,7 @@ def parts(many, fears, lot):
 
 def all_partings(many, fears):
     """The set of all partings."""
-    return tuple([lot for lot in lots_of(many) if parts(many, fears, lot)])
+    return tuple([lot for lot in every_lot(many) if parts(many, fears, lot)])
 
 
 def all_atoms(many, fears):

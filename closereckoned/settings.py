@@ -70,6 +70,12 @@ def setting_from(sizes, place):
     return tuple(choices[::-1])
 
 
+def every_setting(sizes):
+    """A tuple of all settings, in order; sizes may be ()."""
+    # What an operator or a property runs may go through no generator, so not through settings_of.
+    return tuple([setting_from(sizes, place) for place in range(settings_many(sizes))])
+
+
 def values_on(values, lot):
     """What stands in values, which has one for each house, for those of the lot."""
     return tuple([values[house] for house in lot])

@@ -204,6 +204,23 @@ class Language(unittest.TestCase):
         else:
             self.assertTrue(called(parent, {"list", "tuple", "sorted", "sum", "any", "all"}), where)
 
+    def test_generators_are_for_callers_alone(self):
+        generators = [node.name for _, node in self.nodes(ast.FunctionDef) if yields(node)]
+        self.assertEqual(sorted(generators), ["lots_of", "settings_of"])
+        for where, node in self.nodes(ast.Name):
+            self.assertNotIn(node.id, generators, where)
+
+    def test_operators_and_properties_reach_no_generator(self):
+        runs = runs_of([tree for _, tree in self.files()])
+        starts = [node for _, tree in self.files() for node in ast.walk(tree) if is_run_by_a_sign(node)]
+        self.assertIn("__getitem__", [node.name for node in starts])
+        for start in starts:
+            found, new = [], [start]
+            while new:
+                found += new
+                new = [node for node in {far for near in new for far in runs(near)} if node not in found]
+            self.assertEqual([node.name for node in found if yields(node)], [], start.name)
+
     def test_any_and_all_take_lists(self):
         for where, node in self.nodes(ast.Call):
             if called(node, {"any", "all", "sum", "min", "max"}):
@@ -215,6 +232,37 @@ class Language(unittest.TestCase):
                 if isinstance(sign, (ast.Is, ast.IsNot)):
                     self.assertIsInstance(side, ast.Constant, where)
                     self.assertIn(repr(side.value), ("None", "True", "False"), where)
+
+
+def yields(node):
+    return any(isinstance(one, (ast.Yield, ast.YieldFrom)) for one in ast.walk(node))
+
+
+def is_run_by_a_sign(node):
+    """Whether it is a property, or a method that an operator, len, str or a loop runs."""
+    if not isinstance(node, ast.FunctionDef):
+        return False
+    told = [one.id for one in node.decorator_list]
+    return told == ["property"] or node.name in DOUBLES - {"__init__", "__call__"}
+
+
+def runs_of(trees):
+    """A function that tells what a function may run: by its names, whatever object they are read off."""
+    named = {}
+    for tree in trees:
+        for node in ast.walk(tree):
+            if isinstance(node, ast.FunctionDef):
+                named.setdefault(node.name, set()).add(node)
+    for tree in trees:
+        for node in ast.walk(tree):
+            if isinstance(node, ast.ClassDef):
+                named.setdefault(node.name, set()).update(named["__init__"])
+
+    def runs(node):
+        words = [one.id if isinstance(one, ast.Name) else one.attr for one in ast.walk(node)
+                 if isinstance(one, (ast.Name, ast.Attribute))]
+        return {far for word in words for far in named.get(word, ())}
+    return runs
 
 
 def called(node, words):
