@@ -24,7 +24,7 @@ def read_ground(text):
     words = text.split(" ")
     bars = [k for k, word in enumerate(words) if word == "/"]
     first = bars[0] if len(bars) > 0 else len(words)
-    judge_sizes(words, first)
+    judge_sizes(words, first, "ground")
     judge_houses(words, first)
     sizes = tuple([int(word) for word in words[1:first]])
     fears = [lot_behind_bar(words, bar) for bar in bars]
@@ -34,9 +34,9 @@ def read_ground(text):
     return (sizes, tuple(fears))
 
 
-def judge_sizes(words, first):
-    """Refuse the words ahead of index first unless they are ground and one size or more."""
-    if words[0] != "ground":
+def judge_sizes(words, first, opening):
+    """Refuse the words ahead of index first unless they are the opening one and one size or more."""
+    if words[0] != opening:
         raise InvalidText(0, 0)
     for k in range(1, first):
         if not is_size_word(words[k]):

@@ -45,6 +45,16 @@ def greatest(lots):
     return tuple([lot for lot in unlike if not any([is_below(lot, other) for other in unlike])])
 
 
+def finest(members, pairs):
+    """The set of the finest sets such that each member is in just one, and either of each pair in one."""
+    sets = [(member,) for member in members]
+    for one, other in pairs:
+        met = [some for some in sets if one in some or other in some]
+        if len(met) == 2:
+            sets = [some for some in sets if some not in met] + [joined(met[0], met[1])]
+    return tuple(sorted(sets))
+
+
 def every_lot(many):
     """A tuple of all lots, ascending."""
     # What an operator or a property runs may go through no generator, so not through lots_of.

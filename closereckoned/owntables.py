@@ -3,6 +3,7 @@
 from closereckoned.kinds import is_bit, right_lot
 from closereckoned.needs import need, need_lot, need_sizes
 from closereckoned.settings import every_setting, place_in, settings_many, values_on
+from closereckoned.tables import right_table
 
 
 def is_own(sizes, lot, thing):
@@ -30,9 +31,7 @@ def sum_table(sizes, bit, summands):
 
 def right_own(sizes, lot, thing):
     """Whether thing has a bit for each choice of choices on the lot."""
-    if not isinstance(thing, tuple) or len(thing) != settings_many(values_on(sizes, lot)):
-        return False
-    return all([is_bit(answer) for answer in thing])
+    return right_table(values_on(sizes, lot), thing)
 
 
 def right_summand(sizes, thing):

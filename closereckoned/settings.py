@@ -76,6 +76,11 @@ def every_setting(sizes):
     return tuple([setting_from(sizes, place) for place in range(settings_many(sizes))])
 
 
+def with_choice(setting, house, choice):
+    """The setting with this choice of the house, else unchanged."""
+    return setting[:house] + (choice,) + setting[house + 1:]
+
+
 def values_on(values, lot):
     """What stands in values, which has one for each house, for those of the lot."""
     return tuple([values[house] for house in lot])

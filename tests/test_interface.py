@@ -23,8 +23,24 @@ FUNCTIONS = {
     "grounds": "beside(one, other), left_out(ground, house), feared_too(ground, lot), calmed(ground, lot)",
     "groundtexts": "ground_line(ground), read_ground(text)",
     "owntables": "is_own(sizes, lot, thing), spread(sizes, lot, own), sum_table(sizes, bit, summands)",
+    "tables": "is_table(sizes, thing), answer_at(sizes, table, setting), added(sizes, one, other),"
+              " fixed(sizes, table, house, choice)",
+    "fours": "is_four(sizes, thing), four_settings(sizes, four), is_odd(sizes, table, four)",
+    "knitting": "odd_four(sizes, table, one, other), are_knit(sizes, table, one, other), knit_pairs(sizes, table),"
+                " clumps_of(sizes, table), idle_houses(sizes, table)",
+    "seams": "is_seam(sizes, table, lot), halves_of(sizes, table, lot), clump_sum(sizes, table)",
+    "terms": "is_term(sizes, thing), term_value(sizes, term, setting), terms_of(sizes, table),"
+             " table_by_terms(sizes, terms)",
+    "fitting": "fits(ground, table), fit_many(ground), all_fit(ground), mended(ground, table), fit_paper(ground, table)",
+    "fitchecker": "lets_fit(ground, table, thing)",
+    "tabletexts": "table_line(sizes, table), read_table(text)",
+    "grids": "is_grid(thing), is_block(grid, thing), all_block(grid), answers_in(grid, block), flipped(grid)",
+    "ties": "are_tied(grid, block, hand, one, other), classes_of(grid, block, hand)",
+    "cutting": "tree_of(grid), tied_block(grid), cut_paper(grid)",
+    "cutchecker": "lets_cut(grid, thing)",
 }
 
+CLASSES = {"groundclasses": ("Ground", "Few"), "tableclasses": ("Table", "Both")}
 METHODS = {
     "Ground": {
         "__init__": "(self, sizes, fears)", "__call__": "(self, lot)", "__getitem__": None, "__contains__": None,
@@ -34,6 +50,14 @@ METHODS = {
         "read": "(cls, text)", "fearing": "(cls, sizes, *lots)",
     },
     "Few": {"__init__": "(self, sizes, few)", "few_now": "property", "grown": "(self, by=1)"},
+    "Table": {
+        "__init__": "(self, sizes, answers)", "__call__": "(self, lot)", "__getitem__": None, "__contains__": None,
+        "__add__": "(self, other)", "__invert__": "(self)", "__len__": "(self)", "__iter__": "(self)", "__str__": "(self)",
+        "__eq__": "(self, other)", "odd": "(self, one, other)", "halves": "(self, lot)", "settled": "(self, house, choice)",
+        "fits_with": "(self, fears)", "mended_with": "(self, fears)", "sizes_now": "property", "answers_now": "property",
+        "clumps_now": "property", "terms_now": "property", "read": "(cls, text)",
+    },
+    "Both": {"__init__": "(self, sizes, *houses)", "houses_now": "property"},
 }
 
 
@@ -49,21 +73,26 @@ class Interface(unittest.TestCase):
                 self.assertEqual(word + str(inspect.signature(getattr(module, word))), told)
 
     def test_classes(self):
-        module = import_module("closereckoned.groundclasses")
-        defined = [node.name for node in tree_of("groundclasses.py").body if isinstance(node, ast.ClassDef)]
-        for name, methods in METHODS.items():
-            self.assertIn(name, defined)
-            for method, told in methods.items():
-                found = vars(getattr(module, name))[method]
-                if told == "property":
-                    self.assertIsInstance(found, property)
-                elif told is not None:
-                    inner = found.__func__ if isinstance(found, classmethod) else found
-                    self.assertEqual(str(inspect.signature(inner)), told)
-        self.assertEqual(module.Few.__bases__, (module.Ground,))
+        self.assertEqual(sorted(name for names in CLASSES.values() for name in names), sorted(METHODS))
+        for stem, (base, derived) in CLASSES.items():
+            module = import_module(f"closereckoned.{stem}")
+            defined = [node.name for node in tree_of(f"{stem}.py").body if isinstance(node, ast.ClassDef)]
+            self.assertEqual(defined, [base, derived])
+            self.assertEqual(getattr(module, base).__bases__, (object,))
+            self.assertEqual(getattr(module, derived).__bases__, (getattr(module, base),))
+            for name in defined:
+                self.methods(vars(getattr(module, name)), METHODS[name])
+
+    def methods(self, found, listed):
+        for name, told in listed.items():
+            if told == "property":
+                self.assertIsInstance(found[name], property)
+            elif told is not None:
+                inner = found[name].__func__ if isinstance(found[name], classmethod) else found[name]
+                self.assertEqual(str(inspect.signature(inner)), told)
 
     def test_files(self):
-        self.assertLessEqual({f"{name}.py" for name in (*FUNCTIONS, "errors", "groundclasses", "__init__")}, set(FILES))
+        self.assertLessEqual({f"{name}.py" for name in (*FUNCTIONS, *CLASSES, "errors", "__init__")}, set(FILES))
 
 
 if __name__ == "__main__":
