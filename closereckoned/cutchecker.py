@@ -10,7 +10,7 @@ def lets_cut(grid, thing):
     """The word of a paper of the grid; InvalidPaper for any other thing."""
     need_grid(grid)
     if begins(thing, "tree", 2):
-        judge_tree(grid, whole_block(grid), thing[1], ())
+        judge_tree(grid, thing[1])
         return "tree"
     if begins(thing, "tied", 3):
         judge_tied(grid, thing[1], thing[2])
@@ -31,34 +31,47 @@ def judge_tied(grid, rows, columns):
             raise InvalidPaper("classes", hand)
 
 
-def judge_tree(grid, block, tree, at):
-    """Refuse the tree to which these indexes lead unless it is one of the block."""
+def judge_tree(grid, tree):
+    """Refuse the tree unless it is one of the grid."""
+    fault = tree_fault(grid, whole_block(grid), tree, ())
+    if fault is not None:
+        raise InvalidPaper(fault[0], fault[1])
+
+
+def tree_fault(grid, block, tree, at):
+    """The word and the place of the first fault of the tree to which these indexes lead, or None."""
     if is_number(tree):
         if block_answers(grid, block) != (tree,):
-            raise InvalidPaper("answer", at)
-        return
+            return ("answer", at)
+        return None
     if not is_pair_of_hand(tree):
-        raise InvalidPaper("shape", at)
+        return ("shape", at)
     hand, branches = tree
-    judge_branches(grid, block, hand, branches, at)
+    fault = branches_fault(grid, block, hand, branches, at)
+    if fault is not None:
+        return fault
     # Each branch has fewer lanes than the block, so no tree, however deep, leads deeper than the grid has lanes.
     for k, (lanes, below) in enumerate(branches):
-        judge_tree(grid, narrowed(block, hand, lanes), below, (*at, k))
+        within = tree_fault(grid, narrowed(block, hand, lanes), below, (*at, k))
+        if within is not None:
+            return within
+    return None
 
 
-def judge_branches(grid, block, hand, branches, at):
-    """Refuse the branches unless each of the hand's lanes in the block is in just one, tied ones in one."""
+def branches_fault(grid, block, hand, branches, at):
+    """The first fault of branches that do not part the hand's lanes in the block, tied ones together, or None."""
     if len(branches) < 2:
-        raise InvalidPaper("few", at)
+        return ("few", at)
     for k, branch in enumerate(branches):
         if not is_branch(grid, block, hand, branch):
-            raise InvalidPaper("branch", (*at, k))
+            return ("branch", (*at, k))
     parts = [branch[0] for branch in branches]
     if sorted([lane for lanes in parts for lane in lanes]) != list(block[hand]):
-        raise InvalidPaper("lanes", at)
+        return ("lanes", at)
     classes = lane_classes(grid, block, hand)
     if not all([any([is_within(one, lanes) for lanes in parts]) for one in classes]):
-        raise InvalidPaper("tied", at)
+        return ("tied", at)
+    return None
 
 
 def is_pair_of_hand(thing):

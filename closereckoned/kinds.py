@@ -65,6 +65,11 @@ def is_index(many, thing):
     return is_number(thing) and thing < many
 
 
+def are_bits(thing):
+    """Whether thing is a tuple of bits, perhaps ()."""
+    return isinstance(thing, tuple) and all([is_bit(bit) for bit in thing])
+
+
 def is_ascending(things):
     """Whether each of the things, which have an order, is less than the next one."""
     return all([things[k - 1] < things[k] for k in range(1, len(things))])

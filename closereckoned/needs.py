@@ -1,6 +1,6 @@
-"""The judging of parameters: NotUsable for the first one that is not as stated."""
+"""The judging of parameters, and of papers: the first one, or the first entry, that is not as stated is told."""
 
-from closereckoned.errors import NotUsable
+from closereckoned.errors import InvalidPaper, NotUsable
 from closereckoned.kinds import is_ground, is_index, is_many, is_sizes
 from closereckoned.kinds import right_fears, right_lot, right_setting
 
@@ -61,3 +61,9 @@ def need_setting(sizes, setting):
 def need_text(text):
     """Refuse text unless it is a string."""
     need(isinstance(text, str), "text")
+
+
+def demand(holds, word, at):
+    """Refuse a paper with this word, at this place, unless what it must be holds."""
+    if not holds:
+        raise InvalidPaper(word, at)

@@ -355,15 +355,16 @@ class Case(unittest.TestCase):
         self.assertIs(type(caught.exception), kind)
         self.same(vars(caught.exception), fields, f"{call} {rest_of} {named}")
 
-    def judged(self, call, *parameters):
-        """Each parameter is a triple: its name, a good value, what tells good values."""
+    def judged(self, call, *parameters, every=3):
+        """Each parameter is a triple: its name, a good value, what tells good values; perhaps, behind, more wrong values."""
+        bad = [[value for value in (*ODD_VALUES, *sum(more, ())) if not tells(value)] for _, _, tells, *more in parameters]
+        parameters = [parameter[:3] for parameter in parameters]
         self.good(call, parameters)
-        bad = [[value for value in ODD_VALUES if not tells(value)] for _, _, tells in parameters]
         for k, wrong in enumerate(bad):
             for value in wrong:
                 self.told(call, parameters, {k: value})
             for j in range(k + 1, len(bad)):
-                for value, other in product(wrong[::3], bad[j][::3]):
+                for value, other in product(wrong[::every], bad[j][::every]):
                     self.told(call, parameters, {k: value, j: other})
 
     def good(self, call, parameters):

@@ -3,22 +3,51 @@
 import copy
 import unittest
 
+from closereckoned.benches import Bench
+from closereckoned.benchpieces import share_on, sum_on, times_on
+from closereckoned.closechecker import lets_close
+from closereckoned.closepapers import close_paper, entries_at
 from closereckoned.cutchecker import lets_cut
 from closereckoned.cutting import cut_paper, tied_block, tree_of
+from closereckoned.depths import fewest_turns, tree_by_turns
 from closereckoned.errors import ReckonError
+from closereckoned.expansions import expansion_of, expansion_value, right_always
+from closereckoned.faultchecker import lets_fault
 from closereckoned.fitchecker import lets_fit
 from closereckoned.fitting import all_fit, fit_many, fit_paper, fits, mended
 from closereckoned.fours import four_settings, is_odd
+from closereckoned.gridclasses import Added, Grid
 from closereckoned.grids import all_block, answers_in, flipped
+from closereckoned.heardchecker import lets_heard
+from closereckoned.helping import dealt_pairs, helper_of, product_sums
 from closereckoned.knitting import are_knit, clumps_of, idle_houses, knit_pairs, odd_four
+from closereckoned.matching import matched_dice
+from closereckoned.overhearing import can_be_heard, heard_fault, heard_paper
 from closereckoned.partings import atom_at, atoms_of
+from closereckoned.pieces import bit_of, gets_of, pieces_of
+from closereckoned.planchecker import lets_plan
+from closereckoned.planclasses import Chorus, Plan
+from closereckoned.plandeeds import die_steps, known_by, letters_of, reach_of
+from closereckoned.planfaultchecker import lets_plan_fault
+from closereckoned.planfaults import plan_fault
+from closereckoned.plantexts import plan_lines, read_plan
+from closereckoned.reckonchecker import lets_reckoned
+from closereckoned.reckonings import reckoned_at
+from closereckoned.runs import ends_by, run_of, view_of
 from closereckoned.seams import clump_sum, halves_of, is_seam
+from closereckoned.sidegrids import barred_parting, grid_of
 from closereckoned.tableclasses import Both, Table
 from closereckoned.tables import added, answer_at, fixed
 from closereckoned.tabletexts import read_table, table_line
+from closereckoned.talkfaults import talk_fault
+from closereckoned.talks import chance_at, paths_of, talk_by_tree, turns_of
 from closereckoned.terms import table_by_terms, term_value, terms_of
 from closereckoned.ties import are_tied, classes_of
+from closereckoned.toldplans import plan_counts, plan_of
+from closereckoned.viewcounts import is_close, is_right, suits, view_counts
 from tests.helper import BOTH, Case, EACH, EVEN, MIX, PAIR, SIDES, STAIR, WHEEL
+from tests.plainly import COIN, HIDE, MASK, PRODUCT, SUM
+from tests.test_cutchecker import GOOD
 
 THREE, FOUR = (2, 2, 2), ((0, 0, 0), 0, 1, 1, 1)
 ALL = ((0, 1), (0, 1, 2))
@@ -36,9 +65,37 @@ CALLS = (
     (tree_of, STAIR), (tree_of, WHEEL), (tied_block, STAIR), (tied_block, WHEEL), (cut_paper, STAIR), (cut_paper, WHEEL),
     (lets_cut, STAIR, ("tree", 0)), (lets_cut, WHEEL, ("tied", (0, 1, 2), (0, 1, 2))),
     (atoms_of, 3, SIDES[1]), (atom_at, 3, SIDES[1], 2),
+    (fewest_turns, STAIR, 0), (fewest_turns, WHEEL, 1), (tree_by_turns, STAIR, 0), (paths_of, 2, 3, COIN), (turns_of, 2, 3, COIN, 1),
+    (chance_at, 2, 3, COIN, 0, 2, (1, 0)), (talk_by_tree, STAIR, GOOD), (talk_by_tree, STAIR, 0), (talk_fault, STAIR, COIN),
+    (talk_fault, ((0, 0), (0, 0)), (1, ((1, 1), (2, 2)), (0, 0))), (talk_fault, ((0, 0), (0, 0)), (1, ((1, 1), (1, 2)), (0, 0))),
+    (lets_fault, STAIR, COIN, ("wrong", 0, 0, (0,))), (lets_fault, STAIR, COIN, ("wrong", 0, 0, (1,))), (can_be_heard, STAIR),
+    (heard_fault, STAIR, COIN), (heard_paper, STAIR), (heard_paper, WHEEL), (heard_paper, ((0, 1), (2, 0))), (lets_heard, STAIR, ("tree", GOOD)),
+    (lets_heard, ((0, 1), (2, 0)), ("torn", 0, 0, 1, 1)), (grid_of, THREE, MIX, (1,)), (barred_parting, SIDES, MIX), (barred_parting, PAIR, BOTH),
+    (lets_plan, MASK), (lets_plan, (*MASK[:2], (8, 8))), (die_steps, MASK), (known_by, MASK, (1,)), (letters_of, MASK, (1,)),
+    (reach_of, MASK, 4), (run_of, MASK, (1, 0), (1,)), (ends_by, MASK, (1, 0), (1,)), (view_of, MASK, (0,), (1, 0), (1,)),
+    (view_counts, HIDE, (1,), (1, 0)), (is_right, SUM, EVEN), (is_close, SUM, BOTH, (0,)), (suits, PAIR, EVEN, MASK), (suits, PAIR, EVEN, HIDE),
+    (plan_fault, PAIR, BOTH, SUM), (plan_fault, PAIR, EVEN, MASK), (lets_plan_fault, PAIR, EVEN, HIDE, ("wrong", (0, 1), (0,), 0)),
+    (reckoned_at, MASK, (1,), 4), (entries_at, HIDE, (1,), 3), (close_paper, MASK, (1,)), (close_paper, HIDE, (1,)),
+    (lets_close, MASK, (1,), (("fresh", 2), ("answer", 1))), (lets_close, MASK, (1,), (("fresh", 2), ("known",))),
+    (matched_dice, HIDE, (1,), (("fresh", 1),), (0, 0), (1, 0), (0,)), (plan_lines, HIDE), (read_plan, ["plan 2", "own 0 1", "ends 0"]),
+    (read_plan, ["plan 2", "own 0 2", "ends 0"]), (pieces_of, 1, (0, 1)), (bit_of, (0, 1, 0)), (gets_of, 3, EACH[1], 0, (0, 1, 0)),
+    (helper_of, 3, (0,), (1,)), (dealt_pairs, 3, EACH[1]), (product_sums, 3, EACH[1], (0, 1, 0), (1, 1, 0)), (expansion_of, PRODUCT, 2),
+    (expansion_value, MASK, (((), (2,)),), (0, 1), (1,)), (right_always, SUM, EVEN), (right_always, SUM, BOTH), (plan_of, PAIR, EVEN),
+    (plan_of, PAIR, BOTH), (plan_of, EACH, BOTH + EVEN), (plan_counts, MASK),
+    (lets_reckoned, PAIR, EVEN, ("plan", SUM, ((), (("answer", 0),), (("answer", 1),)))),
+    (lambda one: (one.tree_now, one.turns(0), list(~one), list(one + one), 1 in one), Grid(*STAIR)),
+    (lambda one: (one.summands_now, one.grid_now, one.heard_now), Added((0, 1), (1, 1, 0))),
+    (lambda one: (one.lines(), one((0, 1), (1,)), one.right(EVEN), one[3]), Plan(MASK)),
+    (lambda one: (one.answers_now, list(one)), Chorus((2, 2), (1,), (0,))), (lambda sizes: on_bench(Bench(sizes)), (2, 2, 2)),
     (lambda tab: (str(tab), list(tab), tab.clumps_now, tab.odd(0, 1)), Table(THREE, MIX)),
     (lambda one, other: str(one + other), Table(THREE, MIX), Both(THREE, 0, 2)), (lambda tab: str(~tab), Both(THREE, 1)),
 )
+
+
+def on_bench(bench):
+    """What comes of sharing, adding and multiplying on a new bench."""
+    one, lots = share_on(bench, ((0,), (1,)), 0, bench.own(0, (1,))), ((0,), (1,))
+    return bench.finished((0, one[1][0], one[2][0])), sum_on(bench, lots, (one, one, one)), times_on(bench, lots, one, one)
 
 
 def answer(call):
@@ -50,8 +107,8 @@ def answer(call):
 
 
 def repr_of(values):
-    """As repr, but of Tables what they have."""
-    return repr([(str(value), list(value)) if isinstance(value, Table) else value for value in values])
+    """As repr, but of objects what they have."""
+    return repr([vars(value) if isinstance(value, (Table, Grid, Plan)) else value for value in values])
 
 
 class Again(Case):

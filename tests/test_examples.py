@@ -83,6 +83,79 @@ raises InvalidText(line=0, field=7)
 [('tied', (0, 1, 2), (0, 1, 2)), 'tree']
 >>> lets_cut(STAIR, ('tree', (0, (((0,), 0), ((1,), 1)))))
 raises InvalidPaper(word='tied', at=())
+>>> SUM = ((2, 2), (("own", 0, (1,)), ("own", 1, (1,)), ("send", 0, 0, 1), ("send", 1, 1, 0), ("sum", 0, (0, 1)), ("sum", 1, (0, 1))), (4, 5))
+>>> from closereckoned.depths import fewest_turns
+>>> [fewest_turns(STAIR, 0), fewest_turns(STAIR, 1), fewest_turns(WHEEL, 0)]
+[4, 3, None]
+>>> from closereckoned.talks import chance_at, paths_of, turns_of
+>>> COIN = (0, ((1, 1), (0, 3)), (4, (1, ((1,), (2,), (5,)), (1,))))
+>>> [paths_of(2, 3, COIN), chance_at(2, 3, COIN, 0, 2, (1, 0)), turns_of(2, 3, COIN, 0), turns_of(2, 3, COIN, 1)]
+[(((0,), 4), ((1, 0), 1)), (1, 2), 2, 3]
+>>> from closereckoned.sidegrids import barred_parting, grid_of
+>>> [grid_of((2, 2, 2), MIX, (1,)), barred_parting(SIDES, MIX)]
+[((0, 1, 0, 1), (0, 1, 1, 0)), None]
+>>> from closereckoned.gridclasses import Added, Grid
+>>> one, sums = Grid(*STAIR), Added((0, 1), (1, 1, 0))
+>>> [one.turns(1), one[1, 0], sums.grid_now]
+[3, 2, ((1, 1, 0), (0, 0, 1))]
+>>> MASK = ((2, 2), (("own", 0, (1,)), ("own", 1, (1,)), ("die", 0), ("send", 0, 2, 1), ("sum", 0, (0, 2)), ("sum", 1, (1, 2)), ("send", 0, 4, 1), ("send", 1, 5, 0), ("sum", 0, (4, 5)), ("sum", 1, (4, 5))), (8, 9))
+>>> HIDE = ((2, 2), (("own", 0, (1,)), ("die", 0), ("sum", 0, (0, 1)), ("send", 0, 2, 1)), (0, 2))
+>>> from closereckoned.planchecker import lets_plan
+>>> lets_plan(((2, 2), (("own", 0, (1,)), ("send", 1, 0, 0)), (0, 0)))
+raises InvalidPaper(word='bit', at=1)
+>>> from closereckoned.plandeeds import known_by, letters_of
+>>> [known_by(MASK, (1,)), letters_of(MASK, (1,))]
+[(1, 2, 4, 5, 9), (3, 6)]
+>>> from closereckoned.runs import run_of, view_of
+>>> [run_of(MASK, (1, 0), (1,)), view_of(MASK, (0,), (1, 0), (1,))]
+[(1, 0, 1, 1, 0, 1, 0, 1, 1, 1), (1, 1, 0, 1, 1)]
+>>> from closereckoned.viewcounts import is_close, view_counts
+>>> [view_counts(HIDE, (1,), (1, 0)), is_close(SUM, BOTH, (0,))]
+[(((0,), 1), ((1,), 1)), False]
+>>> from closereckoned.closepapers import entries_at
+>>> [entries_at(MASK, (1,), 3), entries_at(MASK, (1,), 6), entries_at(HIDE, (1,), 3)]
+[(('fresh', 2),), (('answer', 0), ('answer', 1)), (('answer', 1), ('fresh', 1))]
+>>> from closereckoned.closechecker import lets_close
+>>> lets_close(MASK, (1,), (("fresh", 2), ("answer", 1)))
+2
+>>> from closereckoned.matching import matched_dice
+>>> matched_dice(HIDE, (1,), (("fresh", 1),), (0, 0), (1, 0), (0,))
+(1,)
+>>> from closereckoned.plantexts import plan_lines, read_plan
+>>> plan_lines(HIDE)
+['plan 2 2', 'own 0 1', 'die 0', 'sum 0 0 1', 'send 0 2 1', 'ends 0 2']
+>>> read_plan(["plan 2 2", "own 0 1", "ends 0"])
+raises InvalidText(line=2, field=2)
+>>> from closereckoned.planclasses import Chorus, Plan
+>>> one = Plan(MASK)
+>>> [len(one), Chorus((2, 2), (1,), (1,)) == Plan(SUM), Chorus((1, 2), (0,), (1,)).answers_now]
+[10, True, (1, 0)]
+>>> from closereckoned.pieces import bit_of, gets_of, pieces_of
+>>> [pieces_of(1, (0, 1)), bit_of((0, 1, 0)), gets_of(3, EACH[1], 0, (0, 1, 0))]
+[(0, 1, 0), 1, (1, 0)]
+>>> from closereckoned.helping import dealt_pairs, helper_of, product_sums
+>>> [helper_of(3, (0,), (1,)), product_sums(3, EACH[1], (0, 1, 0), (1, 1, 0))]
+[2, (1, 0, 1)]
+>>> dealt_pairs(3, EACH[1])
+(((1, 1), (1, 2), (2, 1), (2, 2)), ((0, 0), (0, 2), (2, 0)), ((0, 1), (1, 0)))
+>>> from closereckoned.benches import Bench
+>>> from closereckoned.benchpieces import share_on, sum_on
+>>> bench, one = Bench((2, 2, 2)), ((None, 2, 3), (1, None, 3), (1, 2, None))
+>>> [bench.own(0, (1,)), share_on(bench, EACH[1], 0, 0) == one, sum_on(bench, EACH[1], (one, one, one))]
+[0, True, ((None, 8, 9), (10, None, 11), (12, 13, None))]
+>>> from closereckoned.expansions import expansion_of, expansion_value, right_always
+>>> COIN = ((2,), (('own', 0, (0,)), ('die', 0), ('times', 0, 0, 1)), (2,))
+>>> [expansion_of(COIN, 0), expansion_of(COIN, 2), expansion_value(COIN, expansion_of(COIN, 2), (0,), (1,))]
+[(((), ()), (((0, 1),), ())), (((), (1,)), (((0, 1),), (1,))), 1]
+>>> [right_always(SUM, EVEN), right_always(COIN, (1, 0))]
+[True, False]
+>>> from closereckoned.reckonchecker import lets_reckoned
+>>> from closereckoned.toldplans import plan_counts, plan_of
+>>> SAID = ('plan', SUM, ((), (('answer', 0),), (('answer', 1),)))
+>>> [plan_counts(SUM), right_always(plan_of(SIDES, MIX), MIX), lets_reckoned(PAIR, EVEN, SAID)]
+[(0, 2, 0, 2), True, 'plan']
+>>> lets_reckoned(PAIR, BOTH, SAID)
+raises InvalidPaper(word='wrong', at=0)
 '''
 
 

@@ -40,18 +40,18 @@ def verdict(text):
     return None
 
 
-def changed(line):
+def changed(line, some=WORDS):
     """The line with a word left out, doubled, exchanged, replaced or put in."""
     words = line.split(" ")
     rows = [words]
     for k in range(len(words)):
         rows.append(words[:k] + words[k + 1:])
         rows.append(words[:k] + [words[k]] + words[k:])
-        rows += [words[:k] + [word] + words[k + 1:] for word in WORDS]
+        rows += [words[:k] + [word] + words[k + 1:] for word in some]
         for j in range(k):
             rows.append(words[:j] + [words[k]] + words[j + 1:k] + [words[j]] + words[k + 1:])
     for k in range(len(words) + 1):
-        rows += [words[:k] + [word] + words[k:] for word in WORDS]
+        rows += [words[:k] + [word] + words[k:] for word in some]
     return [" ".join(row) for row in rows] + [line + " ", " " + line, line.replace(" ", "  ", 1), line + "\n"]
 
 

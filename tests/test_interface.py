@@ -38,9 +38,35 @@ FUNCTIONS = {
     "ties": "are_tied(grid, block, hand, one, other), classes_of(grid, block, hand)",
     "cutting": "tree_of(grid), tied_block(grid), cut_paper(grid)",
     "cutchecker": "lets_cut(grid, thing)",
+    "depths": "fewest_turns(grid, hand), tree_by_turns(grid, hand)",
+    "talks": "is_talk(rows, columns, thing), paths_of(rows, columns, talk),"
+             " chance_at(rows, columns, talk, row, column, path), turns_of(rows, columns, talk, hand), talk_by_tree(grid, tree)",
+    "talkfaults": "talk_fault(grid, talk)",
+    "faultchecker": "lets_fault(grid, talk, thing)",
+    "overhearing": "can_be_heard(grid), heard_fault(grid, talk), heard_paper(grid)",
+    "heardchecker": "lets_heard(grid, thing)",
+    "sidegrids": "grid_of(sizes, answers, lot), barred_parting(ground, answers)",
+    "planchecker": "lets_plan(thing)",
+    "plandeeds": "die_steps(plan), known_by(plan, lot), letters_of(plan, lot), reach_of(plan, bit)",
+    "runs": "run_of(plan, setting, dice), ends_by(plan, setting, dice), view_of(plan, lot, setting, dice)",
+    "viewcounts": "view_counts(plan, lot, setting), is_right(plan, table), is_close(plan, table, lot), suits(ground, table, plan)",
+    "planfaults": "plan_fault(ground, table, plan)",
+    "planfaultchecker": "lets_plan_fault(ground, table, plan, thing)",
+    "reckonings": "reckoned_at(plan, lot, step)",
+    "closepapers": "entries_at(plan, lot, step), close_paper(plan, lot)",
+    "closechecker": "lets_close(plan, lot, thing)",
+    "matching": "matched_dice(plan, lot, paper, one, other, dice)",
+    "plantexts": "plan_lines(plan), read_plan(lines)",
+    "pieces": "pieces_of(bit, throws), bit_of(pieces), gets_of(many, lots, house, pieces)",
+    "helping": "helper_of(many, one, other), dealt_pairs(many, lots), product_sums(many, lots, one, other)",
+    "benchpieces": "share_on(bench, lots, house, bit), sum_on(bench, lots, holdings), times_on(bench, lots, one, other)",
+    "expansions": "expansion_of(plan, bit), expansion_value(plan, expansion, setting, dice), right_always(plan, table)",
+    "toldplans": "plan_of(ground, table), plan_counts(plan)",
+    "reckonchecker": "lets_reckoned(ground, table, thing)",
 }
 
-CLASSES = {"groundclasses": ("Ground", "Few"), "tableclasses": ("Table", "Both")}
+CLASSES = {"groundclasses": ("Ground", "Few"), "tableclasses": ("Table", "Both"), "gridclasses": ("Grid", "Added"),
+           "benches": ("Bench",), "planclasses": ("Plan", "Chorus")}
 METHODS = {
     "Ground": {
         "__init__": "(self, sizes, fears)", "__call__": "(self, lot)", "__getitem__": None, "__contains__": None,
@@ -58,6 +84,23 @@ METHODS = {
         "clumps_now": "property", "terms_now": "property", "read": "(cls, text)",
     },
     "Both": {"__init__": "(self, sizes, *houses)", "houses_now": "property"},
+    "Grid": {
+        "__init__": "(self, *rows)", "__getitem__": None, "__contains__": None, "__add__": "(self, other)", "__invert__": "(self)",
+        "__len__": "(self)", "__iter__": "(self)", "__eq__": "(self, other)", "turns": "(self, hand)", "grid_now": "property",
+        "tree_now": "property", "tied_now": "property", "heard_now": "property",
+    },
+    "Added": {"__init__": "(self, one, other)", "summands_now": "property"},
+    "Bench": {
+        "__init__": "(self, sizes)", "own": "(self, house, choices)", "die": "(self, house)", "sum_of": "(self, house, bits)",
+        "times_of": "(self, house, one, other)", "send": "(self, house, bit, other)", "knows": "(self, house, bit)",
+        "finished": "(self, ends)", "sizes_now": "property",
+    },
+    "Plan": {
+        "__init__": "(self, form)", "__call__": "(self, setting, dice)", "__getitem__": None, "__len__": "(self)", "__iter__": "(self)",
+        "__eq__": "(self, other)", "seen": "(self, lot, setting, dice)", "right": "(self, table)", "close": "(self, table, lot)",
+        "lines": "(self)", "form_now": "property", "sizes_now": "property", "dice_now": "property", "read": "(cls, lines)",
+    },
+    "Chorus": {"__init__": "(self, sizes, *sets)", "answers_now": "property"},
 }
 
 
@@ -74,12 +117,12 @@ class Interface(unittest.TestCase):
 
     def test_classes(self):
         self.assertEqual(sorted(name for names in CLASSES.values() for name in names), sorted(METHODS))
-        for stem, (base, derived) in CLASSES.items():
+        for stem, names in CLASSES.items():
             module = import_module(f"closereckoned.{stem}")
             defined = [node.name for node in tree_of(f"{stem}.py").body if isinstance(node, ast.ClassDef)]
-            self.assertEqual(defined, [base, derived])
-            self.assertEqual(getattr(module, base).__bases__, (object,))
-            self.assertEqual(getattr(module, derived).__bases__, (getattr(module, base),))
+            self.assertEqual(defined, list(names))
+            # The first one has no base, the second one is derived from it.
+            self.assertEqual([getattr(module, name).__bases__[0].__name__ for name in names], ["object", *names[:-1]])
             for name in defined:
                 self.methods(vars(getattr(module, name)), METHODS[name])
 

@@ -104,7 +104,7 @@ class Language(unittest.TestCase):
                     self.assertIsInstance(node.value.value, str)
                 elif isinstance(node, ast.Assign):
                     self.assertEqual(len(node.targets), 1)
-                    self.assertIsInstance(ast.literal_eval(node.value), (int, str, tuple))
+                    self.assertIsInstance(ast.literal_eval(node.value), (int, str, tuple, dict))
                     bound.append(node.targets[0].id)
                 elif isinstance(node, ast.ImportFrom):
                     bound += [one.name for one in node.names]
@@ -202,7 +202,8 @@ class Language(unittest.TestCase):
         if isinstance(parent, (ast.For, ast.comprehension)):
             self.assertIs(parent.iter, node, where)
         else:
-            self.assertTrue(called(parent, {"list", "tuple", "sorted", "sum", "any", "all"}), where)
+            words = {"list", "tuple", "sorted", "sum", "any", "all"} | ({"reversed"} if called(node, {"range"}) else set())
+            self.assertTrue(called(parent, words), where)
 
     def test_generators_are_for_callers_alone(self):
         generators = [node.name for _, node in self.nodes(ast.FunctionDef) if yields(node)]
@@ -225,6 +226,15 @@ class Language(unittest.TestCase):
         for where, node in self.nodes(ast.Call):
             if called(node, {"any", "all", "sum", "min", "max"}):
                 self.assertIsInstance(node.args[0], (ast.ListComp, ast.Name), where)
+
+    def test_what_is_returned_by_len_and_iteration(self):
+        for where, node in self.nodes(ast.FunctionDef):
+            if node.name == "__iter__":
+                told = node.body[-1].value
+                self.assertTrue(called(told, {"iter"}) and isinstance(told.args[0], ast.Attribute), where)
+                self.assertIsInstance(told.args[0].value, ast.Name, where)
+            if node.name == "__len__":
+                self.assertTrue(all(called(one.value, {"len"}) for one in ast.walk(node) if isinstance(one, ast.Return)), where)
 
     def test_is(self):
         for where, node in self.nodes(ast.Compare):

@@ -1,0 +1,335 @@
+"""Plain goings through all lanes and paths of talks, all settings and dice of plans, for the tests."""
+
+from collections import Counter
+from fractions import Fraction
+from itertools import product
+from random import Random
+
+from tests import helper
+from tests.helper import all_lots, all_settings, below, number, on_lot, rest
+
+COIN = (0, ((1, 1), (0, 3)), (4, (1, ((1,), (2,), (5,)), (1,))))
+MASK = ((2, 2), (("own", 0, (1,)), ("own", 1, (1,)), ("die", 0), ("send", 0, 2, 1), ("sum", 0, (0, 2)), ("sum", 1, (1, 2)),
+                 ("send", 0, 4, 1), ("send", 1, 5, 0), ("sum", 0, (4, 5)), ("sum", 1, (4, 5))), (8, 9))
+HIDE = ((2, 2), (("own", 0, (1,)), ("die", 0), ("sum", 0, (0, 1)), ("send", 0, 2, 1)), (0, 2))
+SUM = ((2, 2), (("own", 0, (1,)), ("own", 1, (1,)), ("send", 0, 0, 1), ("send", 1, 1, 0), ("sum", 0, (0, 1)),
+                ("sum", 1, (0, 1))), (4, 5))
+PRODUCT = ((2,), (("own", 0, (0,)), ("die", 0), ("times", 0, 0, 1)), (2,))
+
+# Talks for two rows and three columns, good and nearly good.
+NEAR_TALKS = (
+    COIN, [*COIN], COIN[:2], (*COIN, ()), (True, *COIN[1:]), (2, *COIN[1:]), (None, *COIN[1:]), (0, COIN[1], [4, 1]),
+    (0, COIN[1], ()), (0, ((1,), (1,)), (4,)), (0, ((1,),), (4,)), (0, ((1,), (0,)), (4,)), (0, ((1,), (True,)), (4,)),
+    (0, ((1,), (-1,)), (4,)), (0, [(1,), (1,)], (4,)), (0, ((1,), [1]), (4,)), (0, ((1, 1), (1,)), (4, 5)),
+    (0, ((1,), (1,), (1,)), (4,)), (1, ((1,), (1,)), (4,)), (1, ((1,), (1,), (1,)), (4,)), (1, ((1,),) * 3, (True,)),
+    (1, ((1,),) * 3, (None,)), (1, ((1,),) * 3, (-1,)), (1, ((1,),) * 3, ((0, ((1,),) * 2, (7,)),)),
+    (1, ((1,),) * 3, ((0, ((1,),) * 3, (7,)),)), (1, ((0, 0),) * 3, (1, 2)), (1, ((0, 99),) * 3, (1, 2)), (0, (), ()), (0, 1, 2),
+    (0, ((1, 0), (0, 1)), (5, (0, ((1, 1), (0, 0)), (1, 2)))))
+
+
+def talk(rows, columns):
+    """What tells whether any value is a talk for so many rows and columns."""
+    def tells(value):
+        if number(value):
+            return True
+        if type(value) is not tuple or len(value) != 3 or not helper.bit(value[0]):
+            return False
+        hand, weights, talks = value
+        if type(talks) is not tuple or talks == () or type(weights) is not tuple or len(weights) != (rows, columns)[hand]:
+            return False
+        for own in weights:
+            if type(own) is not tuple or len(own) != len(talks) or not all(number(weight) for weight in own) or sum(own) == 0:
+                return False
+        return all(tells(one) for one in talks)
+    return tells
+
+
+def paths(of_talk):
+    if type(of_talk) is int:
+        return [((), of_talk)]
+    return [((k, *path), end) for k, one in enumerate(of_talk[2]) for path, end in paths(one)]
+
+
+def is_path(of_talk, value):
+    return type(value) is tuple and all(number(k) for k in value) and value in [path for path, _ in paths(of_talk)]
+
+
+def chance(of_talk, row, column, path):
+    found = Fraction(1)
+    for k in path:
+        hand, weights, talks = of_talk
+        own = weights[column if hand else row]
+        found *= Fraction(own[k], sum(own))
+        of_talk = talks[k]
+    return found
+
+
+def turns(of_talk, path, hand):
+    hands = []
+    for k in path:
+        hands.append(of_talk[0])
+        of_talk = of_talk[2][k]
+    if not hands:
+        return 0
+    return 1 + sum(one != other for one, other in zip(hands, hands[1:])) + (hands[0] != hand)
+
+
+def thrown_talk(rnd, rows, columns, depth, most=3):
+    """A talk that looks thrown, with some weights 0, some in equal shares."""
+    if depth == 0 or rnd.random() < 0.2:
+        return rnd.randrange(4)
+    hand, many = rnd.randrange(2), rnd.randrange(1, most + 1)
+    shares = [[rnd.randrange(4) for _ in range(many)] for _ in range(2)]
+    for own in shares:
+        own[rnd.randrange(many)] += 1
+    weights = tuple(tuple(weight * times for weight in rnd.choice(shares))
+                    for times in rnd.choices((1, 1, 2, 3), k=(rows, columns)[hand]))
+    return (hand, weights, tuple(thrown_talk(rnd, rows, columns, depth - 1, most) for _ in range(many)))
+
+
+def talk_faults(grid, of_talk):
+    """All faults of a talk, by going through all paths and places."""
+    places = list(product(range(len(grid)), range(len(grid[0]))))
+    found = set()
+    for path, end in paths(of_talk):
+        for row, column in places:
+            if chance(of_talk, row, column, path) > 0 and grid[row][column] != end:
+                found.add(("wrong", row, column, path))
+        for (row, column), (other_row, other_column) in product(places, repeat=2):
+            if grid[row][column] == grid[other_row][other_column]:
+                if chance(of_talk, row, column, path) != chance(of_talk, other_row, other_column, path):
+                    found.add(("heard", row, column, other_row, other_column, path))
+                    if row == other_row:
+                        found.add(("seen", 0, row, column, other_column, path))
+                    if column == other_column:
+                        found.add(("seen", 1, column, row, other_row, path))
+    return found
+
+
+LENGTHS = {"own": 3, "die": 2, "sum": 3, "times": 4, "send": 4}
+
+
+def held_by(steps, house):
+    """What the house knows after these steps."""
+    made = {k for k, step in enumerate(steps) if step[0] != "send" and step[1] == house}
+    return made | {step[2] for step in steps if step[0] == "send" and step[3] == house}
+
+
+def is_set(value, tells):
+    return type(value) is tuple and all(tells(one) for one in value) and list(value) == sorted(set(value))
+
+
+def step_word(form, ahead, step):
+    """The first word of the list by which the step is refused behind those ahead, or None."""
+    if type(step) is not tuple or step == () or type(step[0]) is not str or LENGTHS.get(step[0]) != len(step):
+        return "step"
+    if not below(len(form))(step[1]):
+        return "house"
+    held = held_by(ahead, step[1])
+
+    def known(value):
+        return number(value) and value in held
+    kind = step[0]
+    if kind == "own" and not is_set(step[2], below(form[step[1]])):
+        return "choices"
+    if kind == "sum" and not is_set(step[2], known):
+        return "bits"
+    if kind == "times":
+        return "one" if not known(step[2]) else None if known(step[3]) and step[3] > step[2] else "other"
+    if kind == "send":
+        return "bit" if not known(step[2]) else None if below(len(form))(step[3]) and step[3] != step[1] else "other"
+    return None
+
+
+def plan_expected(thing):
+    """The first entry of the list of lets_plan that applies, or None."""
+    if type(thing) is not tuple or len(thing) != 3 or type(thing[1]) is not tuple or type(thing[2]) is not tuple:
+        return ("shape", -1)
+    form, steps, ends = thing
+    if not helper.sizes(form):
+        return ("sizes", -1)
+    for k, step in enumerate(steps):
+        word = step_word(form, steps[:k], step)
+        if word is not None:
+            return (word, k)
+    if len(ends) != len(form):
+        return ("ends", -1)
+    for house, end in enumerate(ends):
+        if not number(end) or end not in held_by(steps, house):
+            return ("end", house)
+    return None
+
+
+def plan(value):
+    return plan_expected(value) is None
+
+
+def plan_of_sizes(form):
+    return lambda value: plan(value) and value[0] == form
+
+
+def near_plans(good):
+    """The plan with one thing of it changed, whether it is still one or not."""
+    form, steps, ends = good
+    found = [list(good), good[:2], (*good, ()), (list(form), steps, ends), (form, list(steps), ends), (form, steps, list(ends)),
+             ((), steps, ends), ((*form[:-1], True), steps, ends), ((*form, 2), steps, ends), (form, steps, ends[:-1]),
+             (form, steps, (*ends, ends[0])), (form, (), ends), (form, steps[1:], ends), (form, steps[:-1], ends),
+             (form, steps, (None, *ends[1:])), (form, steps, (len(steps), *ends[1:])), ((3, *form[1:]), steps, ends)]
+    for k, step in enumerate(steps):
+        others = [None, list(step), step[:-1], (*step, 0), ("Own", *step[1:]), (step[0], len(form), *step[2:]), (step[0], True, *step[2:]),
+                  (("own",), *step[1:]), (step[0], -1, *step[2:]), (*step[:-1], None), (*step[:-1], (len(steps),)), (*step[:-1], (True,)),
+                  (*step[:-1], True), (*step[:-1], k), (*step[:-1], [0]), (*step[:-1], (1, 0)), (*step[:-1], (0, 0)),
+                  ("die", step[1]), ("sum", step[1], ()), ("send", step[1], 0, 0), ("own", step[1], ())]
+        found += [(form, (*steps[:k], other, *steps[k + 1:]), ends) for other in others]
+    return tuple(found)
+
+
+NEAR_PLANS = near_plans(HIDE)
+
+
+def dice_many(of_plan):
+    return sum(step[0] == "die" for step in of_plan[1])
+
+
+def all_dice(of_plan):
+    return list(product((0, 1), repeat=dice_many(of_plan)))
+
+
+def dice_of(of_plan):
+    """What tells whether any value is dice of the plan."""
+    return lambda value: type(value) is tuple and len(value) == dice_many(of_plan) and all(helper.bit(one) for one in value)
+
+
+def run(of_plan, place, dice):
+    """The run, each step by its definition."""
+    thrown, values = iter(dice), []
+    for step in of_plan[1]:
+        if step[0] == "own":
+            values.append(1 if place[step[1]] in step[2] else 0)
+        elif step[0] == "die":
+            values.append(next(thrown))
+        elif step[0] == "sum":
+            values.append(sum(values[bit] for bit in step[2]) % 2)
+        elif step[0] == "times":
+            values.append(values[step[2]] * values[step[3]])
+        else:
+            values.append(values[step[2]])
+    return tuple(values)
+
+
+def known(of_plan, lot):
+    return sorted({bit for house in lot for bit in held_by(of_plan[1], house)})
+
+
+def view(of_plan, lot, place, dice):
+    values = run(of_plan, place, dice)
+    return tuple(values[bit] for bit in known(of_plan, lot))
+
+
+def views(of_plan, lot, place):
+    """For how many dice each view comes."""
+    bits = known(of_plan, lot)
+    runs = [run(of_plan, place, dice) for dice in all_dice(of_plan)]
+    return Counter(tuple(values[bit] for bit in bits) for values in runs)
+
+
+def plan_faults(ground, table, of_plan):
+    """All faults of a plan, by going through all settings and dice."""
+    (form, fears), ends = ground, of_plan[2]
+    told = dict(zip(all_settings(form), table))
+    found = set()
+    for place, dice in product(told, all_dice(of_plan)):
+        values = run(of_plan, place, dice)
+        found |= {("wrong", place, dice, house) for house, end in enumerate(ends) if values[end] != told[place]}
+    for lot in all_lots(len(form)):
+        if helper.feared(fears, lot):
+            counts = {place: views(of_plan, lot, place) for place in told}
+            for one, other in product(told, repeat=2):
+                if on_lot(one, lot) == on_lot(other, lot) and told[one] == told[other]:
+                    found |= {("seen", lot, one, other, seen) for seen in {*counts[one], *counts[other]}
+                              if counts[one][seen] != counts[other][seen]}
+    return found
+
+
+def reach(of_plan, bit):
+    step = of_plan[1][bit]
+    if step[0] == "die":
+        return {bit}
+    if step[0] == "own":
+        return set()
+    return set().union(*[reach(of_plan, other) for other in (step[2] if step[0] == "sum" else step[2:])])
+
+
+def letters(of_plan, lot):
+    return [k for k, step in enumerate(of_plan[1]) if step[0] == "send" and step[1] not in lot and step[3] in lot]
+
+
+def reckoned(of_plan, lot, step):
+    """The smallest set, by putting in what must be until nothing is new."""
+    steps, found = of_plan[1], set()
+    while True:
+        new = {k for k, one in enumerate(steps) if one[0] in ("own", "die") and one[1] in lot}
+        new |= {one[2] for one in steps[:step] if one[0] == "send" and one[3] in lot}
+        new |= {k for k, one in enumerate(steps) if one[0] == "sum" and set(one[2]) <= found}
+        new |= {k for k, one in enumerate(steps) if one[0] == "times" and set(one[2:]) <= found}
+        if new <= found:
+            return found
+        found |= new
+
+
+def accepted(of_plan, lot, letter, entry):
+    """Whether an entry, of the right form, is accepted for the letter."""
+    steps, bit = of_plan[1], of_plan[1][letter][2]
+    if entry == ("known",):
+        return bit in reckoned(of_plan, lot, letter)
+    made = set(steps[bit][2]) if steps[bit][0] == "sum" else set()
+    if entry[0] == "fresh":
+        die = entry[1]
+        if steps[die][0] != "die" or steps[die][1] in lot:
+            return False
+        if any(die in reach(of_plan, steps[other][2]) for other in letters(of_plan, lot) if other < letter):
+            return False
+        return bit == die or (die in made and not any(die in reach(of_plan, other) for other in made - {die}))
+    end = of_plan[2][entry[1]]
+    if end == bit:
+        return True
+    summands = set(steps[end][2]) if steps[end][0] == "sum" else set()
+    return bit in summands and summands - {bit} <= reckoned(of_plan, lot, letter)
+
+
+def entries(of_plan, lot, letter):
+    """All entries that are accepted for the letter, by going through all steps and houses."""
+    found = [("known",), *[("answer", house) for house in range(len(of_plan[0]))]]
+    found += [("fresh", k) for k, step in enumerate(of_plan[1]) if step[0] == "die"]
+    return tuple(sorted(entry for entry in found if accepted(of_plan, lot, letter, entry)))
+
+
+def thrown_plan(rnd, form, many, most_dice, kinds=("own", "die", "sum", "sum", "times", "send", "send", "send")):
+    """A plan of so many steps, or a few more, that looks thrown."""
+    steps = [("own", house, tuple(choice for choice in range(size) if rnd.random() < 0.5)) for house, size in enumerate(form)]
+    while len(steps) < many:
+        house, kind = rnd.randrange(len(form)), rnd.choice(kinds)
+        held = sorted(held_by(steps, house))
+        if kind == "own":
+            steps.append(("own", house, tuple(choice for choice in range(form[house]) if rnd.random() < 0.5)))
+        elif kind == "die" and sum(step[0] == "die" for step in steps) < most_dice:
+            steps.append(("die", house))
+        elif kind == "sum":
+            steps.append(("sum", house, tuple(sorted(rnd.sample(held, min(len(held), rnd.randrange(4)))))))
+        elif kind == "times" and len(held) > 1:
+            steps.append(("times", house, *sorted(rnd.sample(held, 2))))
+        elif kind == "send" and len(form) > 1:
+            steps.append(("send", house, rnd.choice(held[-3:]), rnd.choice(rest(len(form), (house,)))))
+    return (form, tuple(steps), tuple(rnd.choice(sorted(held_by(steps, house))[-3:]) for house in range(len(form))))
+
+
+def ending_alike(of_plan):
+    """The plan with the own bit of house 0 sent to all in the end, on which all end: so it is right for some table."""
+    form, steps, _ = of_plan
+    sends = tuple(("send", 0, 0, house) for house in range(1, len(form)))
+    return (form, steps + sends, (0,) * len(form))
+
+
+def thrown_plans(form, count, many, most_dice, seed=7):
+    rnd = Random(seed)
+    return [thrown_plan(rnd, form, many, most_dice) for _ in range(count)]
