@@ -25,8 +25,6 @@ def plan_fault(ground, table, plan):
 
 
 def unlike_code(one, other):
-    """The least code that has not the same count in both of these, which are unlike."""
-    # A pair that stands in one of them alone is a count beside which the other one has another count, or none.
-    codes = [pair[0] for pair in one if pair not in other]
-    codes.extend([pair[0] for pair in other if pair not in one])
-    return min(codes)
+    """The least code in one that has not the same count in other, which is unlike it."""
+    # Both have as many dice in all, so neither has nothing but what the other has, too.
+    return min([pair[0] for pair in one if pair not in other])

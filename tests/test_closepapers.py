@@ -76,6 +76,9 @@ class ClosePapers(Case):
         self.same([entries_at(plan, (1,), 5), entries_at(plan, (1,), 6), close_paper(plan, (1,))], [(), (), None])
         # The first letter reaches die 2, though it does not hang on it.
         self.same(plainly.reach(plan, 4), {2})
+        # One other bit of the sum reaches the die, one does not.
+        plan = ((2, 2), (("own", 0, (1,)), ("own", 1, (1,)), ("die", 0), ("times", 0, 0, 2), ("sum", 0, (0, 2, 3)), ("send", 0, 4, 1)), (0, 1))
+        self.same(entries_at(plan, (1,), 5), ())
         # A product with a die, and a die of the lot itself, are no fresh ones; one sum may have several.
         plan = ((2, 2), (("own", 0, (1,)), ("own", 1, (1,)), ("die", 0), ("die", 0), ("die", 1), ("send", 1, 4, 0), ("times", 0, 2, 3),
                          ("sum", 0, (0, 2, 3, 4)), ("send", 0, 6, 1), ("send", 0, 7, 1)), (0, 1))

@@ -85,6 +85,8 @@ class Expansions(Case):
         # Two choices of one house at once there is none; a choice with itself is this choice.
         self.same(expansion_of(plan, 4), ((((0, 2),), ()),))
         self.same(expansion_of(plan, 6), ((((0, 1), (1, 1)), ()), (((0, 3), (1, 1)), ()), (((1, 1),), ())))
+        three = ((3,), (("own", 0, (1,)), ("own", 0, (2,)), ("times", 0, 0, 1), ("own", 0, (1, 2)), ("times", 0, 1, 3)), (0,))
+        self.same([expansion_of(three, 2), expansion_of(three, 4)], [(), ((((0, 2),), ()),)])
         self.same([expansion_of(plan, 3), expansion_of(plan, 7), expansion_of(bit=8, plan=plan)], [(), (((), ()),), ()])
 
     def test_right_always(self):
@@ -117,7 +119,7 @@ class Expansions(Case):
         # 44 dice times 45 dice: 1980 pairs; what is not needed may be far longer.
         steps = [("die", 0)] * 89 + [("sum", 0, tuple(range(44))), ("sum", 0, tuple(range(44, 89))), ("times", 0, 89, 90)]
         steps += [("sum", 0, (0, 44, 89)), ("sum", 0, (1, 45, 90)), ("times", 0, 91, 92), ("times", 0, 93, 94), ("times", 0, 94, 95)]
-        steps += [("own", 0, (1,)), ("sum", 0, (91, 97)), ("sum", 0, (91, 98))]
+        steps += [("own", 0, (1,)), ("sum", 0, (91, 97)), ("sum", 0, (91, 98)), ("sum", 0, (96,))]
         plan = ((2,), tuple(steps), (99,))
         pairs = expansion_of(plan, 91)
         self.same((len(pairs), pairs[0], pairs[-1]), (1980, ((), (0, 44)), ((), (43, 88))))

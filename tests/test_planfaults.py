@@ -49,6 +49,18 @@ class PlanFaults(Case):
         self.same(self.judge(((2, 1), ((0,), (1,))), (0, 0), uneven), "seen")
         self.same(plan_fault(((2, 1), ((1,),)), (0, 0), uneven)[1:4], ((1,), (0, 0), (1, 0)))
 
+    def test_some_views_come_as_often(self):
+        # House 1 hears a bit that house 0 throws, or makes of nothing but that, and its product with house 0's own bit: where
+        # it is 0, it hears the same by both settings.
+        first = ((2, 2), (("own", 0, (1,)), ("die", 0), ("times", 0, 0, 1), ("send", 0, 1, 1), ("send", 0, 2, 1), ("own", 1, ()),
+                          ("sum", 0, ())), (6, 5))
+        second = ((2, 2), (("own", 0, (1,)), ("die", 0), ("die", 0), ("sum", 0, (1,)), ("times", 0, 0, 3), ("send", 0, 3, 1),
+                           ("send", 0, 4, 1), ("own", 1, ()), ("sum", 0, ())), (8, 7))
+        for plan in (first, second):
+            self.same(self.judge(PAIR, (0,) * 4, plan), "seen")
+            fault = plan_fault(PAIR, (0,) * 4, plan)
+            self.same((fault[1], fault[4][0]), ((1,), 1))
+
     def test_other_grounds(self):
         for ground, table in ((EACH, MIX), (SIDES, MIX)):
             for plan in thrown_plans((2, 2, 2), 6, 14, 2, seed=21):

@@ -171,6 +171,7 @@ class PlanTexts(Case):
         self.unread(3, 3, [*own, "times 0 0"])
         self.unread(3, 3, [*own, "times 0 0 0"])
         self.unread(4, 4, [*own, "die 0", "times 0 0 2 2"])
+        self.unread(5, 4, [*own, "die 0", "die 0", "times 0 0 2 3"])
         self.unread(3, 3, [*own, "send 0 0"])
         self.unread(3, 3, [*own, "send 0 0 0"])
         self.unread(3, 4, [*own, "send 0 0 1 "])

@@ -56,14 +56,15 @@ class ViewCounts(Case):
 
     def test_suits(self):
         seen = Counter()
-        for plan in (SUM, MASK, HIDE, *thrown_plans((2, 2), 40, 9, 2), *thrown_plans((2, 1, 2), 12, 12, 2)):
+        alike = [plainly.ending_alike(plan) for plan in thrown_plans((2, 2), 20, 8, 2) + thrown_plans((2, 1, 2), 6, 9, 2)]
+        for plan in (SUM, MASK, HIDE, *alike, *thrown_plans((2, 2), 20, 9, 2), *thrown_plans((2, 1, 2), 6, 12, 2)):
             for fears in all_fears(len(plan[0]))[::3]:
                 for table in {ends_table(plan), EVEN} if len(plan[0]) == 2 else {ends_table(plan)}:
                     ground = (plan[0], fears)
                     expected = not plan_faults(ground, table, plan)
                     self.assertIs(suits(ground, table, plan), expected)
-                    seen[expected] += 1
-        self.assertTrue(seen[True] > 9 and seen[False] > 9, seen)
+                    seen[expected, right(plan, table)] += 1
+        self.assertTrue(all(seen[so] > 9 for so in ((True, True), (False, True), (False, False))), seen)
 
     def test_g1(self):
         # A plan suits only where the table fits.
