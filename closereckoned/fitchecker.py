@@ -12,7 +12,9 @@ def lets_fit(ground, table, thing):
     """The first word of a paper of the ground and table; InvalidPaper for any other thing."""
     need_ground_table(ground, table)
     if begins(thing, "sum", 3):
-        judge_sum(ground, table, thing[1], thing[2])
+        sizes, fears = ground
+        many = len(sizes)
+        judge_sum(sizes, table, (tuple(range(many)), all_atoms(many, fears)), thing[1], thing[2])
         return "sum"
     if begins(thing, "odd", 3):
         judge_odd(ground, table, thing[1], thing[2])
@@ -20,27 +22,31 @@ def lets_fit(ground, table, thing):
     raise InvalidPaper("shape", -1)
 
 
-def judge_sum(ground, table, bit, summands):
-    """Refuse the bit, then the summands unless each is usable, and all sum up to the table."""
+def judge_sum(sizes, table, core, bit, summands):
+    """Refuse the bit, then the summands unless each is usable, and all sum up to the table.
+
+    The core is a pair of the lot in which the summands are to be, and of the atoms in it.
+    """
     if not is_bit(bit):
         raise InvalidPaper("bit", -1)
     if not isinstance(summands, tuple):
         raise InvalidPaper("summands", -1)
-    sizes, fears = ground
-    atoms = all_atoms(len(sizes), fears)
     for k in range(len(summands)):
-        judge_summand(sizes, atoms, summands, k)
+        judge_summand(sizes, core, summands, k)
     if summed(sizes, bit, summands) != table:
         raise InvalidPaper("sum", -1)
 
 
-def judge_summand(sizes, atoms, summands, k):
-    """Refuse summand k unless its lot is apart from those ahead, and within one of the atoms."""
+def judge_summand(sizes, core, summands, k):
+    """Refuse summand k unless its lot is in the core, apart from those ahead, and within one of the atoms."""
+    houses, atoms = core
     if not right_summand(sizes, summands[k]):
         raise InvalidPaper("summand", k)
     lot = summands[k][0]
     if len(lot) == 0:
         raise InvalidPaper("none", k)
+    if not is_within(lot, houses):
+        raise InvalidPaper("within", k)
     lots_ahead = [summand[0] for summand in summands[:k]]
     if any([house in earlier for house in lot for earlier in lots_ahead]):
         raise InvalidPaper("apart", k)

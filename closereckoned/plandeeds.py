@@ -95,6 +95,11 @@ def is_bit_of(steps, thing):
     return is_index(len(steps), thing) and steps[thing][0] != "send"
 
 
+def are_dice(plan, thing):
+    """Whether thing is a tuple of as many bits as the plan has die steps."""
+    return are_bits(thing) and len(thing) == len(dice_among(plan[1]))
+
+
 def need_dice(plan, dice):
     """Refuse dice unless it is a tuple of as many bits as the plan has die steps."""
-    need(are_bits(dice) and len(dice) == len(dice_among(plan[1])), "dice")
+    need(are_dice(plan, dice), "dice")

@@ -5,7 +5,7 @@ from closereckoned.feardeeds import feared_by
 from closereckoned.kinds import are_bits, begins, is_index, right_lot, right_setting
 from closereckoned.needs import demand
 from closereckoned.planchecker import need_plan_on
-from closereckoned.plandeeds import dice_among
+from closereckoned.plandeeds import are_dice
 from closereckoned.runs import run_by
 from closereckoned.settings import place_in, values_on
 from closereckoned.tables import need_ground_table
@@ -28,9 +28,9 @@ def lets_plan_fault(ground, table, plan, thing):
 def judge_wrong(table, plan, fault):
     """Refuse the fault unless the house's end has not the answer."""
     _, setting, dice, house = fault
-    sizes, steps, ends = plan
+    sizes, _, ends = plan
     demand(right_setting(sizes, setting), "setting", -1)
-    demand(are_bits(dice) and len(dice) == len(dice_among(steps)), "dice", -1)
+    demand(are_dice(plan, dice), "dice", -1)
     demand(is_index(len(sizes), house), "house", -1)
     demand(run_by(plan, setting, dice)[ends[house]] != table[place_in(sizes, setting)], "right", -1)
 

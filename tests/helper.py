@@ -390,3 +390,13 @@ class Case(unittest.TestCase):
 def outcome(call, *rest_of, **named):
     result = call(*rest_of, **named)
     return list(result) if inspect.isgenerator(result) else result
+
+
+def named(call, *names):
+    """The call, by name, with its parameters in the sequence in which they are judged."""
+    return lambda *values, **told: call(**dict(zip(names, values)), **told)
+
+
+def wanted(value, *others):
+    """What tells just values written like this one, or like one of the others."""
+    return lambda thing: repr(thing) in [repr(one) for one in (value, *others)]

@@ -1,8 +1,9 @@
-"""Plain goings through all lanes and paths of talks, all settings and dice of plans, for the tests."""
+"""Plain goings through all lanes and paths of talks, all settings and dice of plans, all ways of nets, for the tests."""
 
 from collections import Counter
 from fractions import Fraction
-from itertools import product
+from functools import lru_cache
+from itertools import combinations, permutations, product
 from random import Random
 
 from tests import helper
@@ -20,7 +21,8 @@ PRODUCT = ((2,), (("own", 0, (0,)), ("die", 0), ("times", 0, 0, 1)), (2,))
 NEAR_TALKS = (
     COIN, [*COIN], COIN[:2], (*COIN, ()), (True, *COIN[1:]), (2, *COIN[1:]), (None, *COIN[1:]), (0, COIN[1], [4, 1]),
     (0, COIN[1], ()), (0, ((1,), (1,)), (4,)), (0, ((1,),), (4,)), (0, ((1,), (0,)), (4,)), (0, ((1,), (True,)), (4,)),
-    (0, ((1,), (-1,)), (4,)), (0, ((1, True), (1, 1)), (4, 5)), (0, ((1, 1), (2, -1)), (4, 5)), (0, [(1,), (1,)], (4,)), (0, ((1,), [1]), (4,)), (0, ((1, 1), (1,)), (4, 5)),
+    (0, ((1,), (-1,)), (4,)), (0, ((1, True), (1, 1)), (4, 5)), (0, ((1, 1), (2, -1)), (4, 5)), (0, [(1,), (1,)], (4,)),
+    (0, ((1,), [1]), (4,)), (0, ((1, 1), (1,)), (4, 5)),
     (0, ((1,), (1,), (1,)), (4,)), (1, ((1,), (1,)), (4,)), (1, ((1,), (1,), (1,)), (4,)), (1, ((1,),) * 3, (True,)),
     (1, ((1,),) * 3, (None,)), (1, ((1,),) * 3, (-1,)), (1, ((1,),) * 3, ((0, ((1,),) * 2, (7,)),)),
     (1, ((1,),) * 3, ((0, ((1,),) * 3, (7,)),)), (1, ((0, 0),) * 3, (1, 2)), (1, ((0, 99),) * 3, (1, 2)), (0, (), ()), (0, 1, 2),
@@ -333,3 +335,178 @@ def ending_alike(of_plan):
 def thrown_plans(form, count, many, most_dice, seed=7):
     rnd = Random(seed)
     return [thrown_plan(rnd, form, many, most_dice) for _ in range(count)]
+
+
+LINE, ROUND, STAR = ((0, 1), (1, 2)), ((0, 1), (0, 3), (1, 2), (2, 3)), ((0, 1), (0, 2), (0, 3))
+FOUR = ((0,), (1,), (2,), (3,))
+NEAR_NETS = (
+    ((0, 1),), ((0, 1), (1, 2)), ((0, 1), (0, 2), (1, 2)), ((0, 2), (0, 1)), ((0, 1), (0, 1)), ((1, 0),), ((0, 0),),
+    ((0, True),), ((False, 1),), ([0, 1],), [(0, 1)], ((0, 1, 2),), ((0,),), ((0, 3),), ((-1, 0),), ((0, None),),
+    ((0, 1), (1, 2), (0, 2)), ("01",), ((4, 5),), (((0,), 1),))
+
+
+def all_wires(many):
+    return list(combinations(range(many), 2))
+
+
+def all_nets(many):
+    """All nets of so many houses."""
+    return [some for count in range(len(all_wires(many)) + 1) for some in combinations(all_wires(many), count)]
+
+
+def net(many):
+    """What tells whether any value is a net of so many houses."""
+    def tells(value):
+        if type(value) is not tuple or not all(type(one) is tuple and len(one) == 2 for one in value):
+            return False
+        if not all(below(many)(house) for one in value for house in one):
+            return False
+        return all(one < other for one, other in value) and list(value) == sorted(set(value))
+    return tells
+
+
+@lru_cache(maxsize=None)
+def ways(many, of_net):
+    """All ways of the net, by going through all rows of houses."""
+    return [some for count in range(many + 1) for some in permutations(range(many), count)
+            if all(tuple(sorted(pair)) in of_net for pair in zip(some, some[1:]))]
+
+
+@lru_cache(maxsize=None)
+def ways_past(many, of_net, lot, one, other):
+    return [way for way in ways(many, of_net)
+            if way and way[0] == one and way[-1] == other and not set(way) & set(lot)]
+
+
+def sides(many, of_net, lot):
+    outside = rest(many, lot)
+    return tuple(sorted({tuple(other for other in outside if ways_past(many, of_net, lot, one, other)) for one in outside}))
+
+
+def dividing(many, of_net, fears):
+    """The feared lots that divide some two houses."""
+    return tuple(lot for lot in all_lots(many) if helper.feared(fears, lot) and any(
+        not ways_past(many, of_net, lot, one, other) for one, other in combinations(rest(many, lot), 2)))
+
+
+def between(many, fears, one, other):
+    lots = [lot for lot in all_lots(many) if helper.feared(fears, lot) and not {one, other} & set(lot)]
+    return tuple(lot for lot in lots if not any(set(lot) < set(wider) for wider in lots))
+
+
+def cuts(many, of_net, fears, one, other):
+    """The feared lots with neither of the two houses that divide them."""
+    lots = [lot for lot in all_lots(many) if helper.feared(fears, lot) and not {one, other} & set(lot)]
+    return [lot for lot in lots if not ways_past(many, of_net, lot, one, other)]
+
+
+def across(of_net, lot):
+    return [wire for wire in of_net if len(set(wire) & set(lot)) == 1]
+
+
+def hearing(of_net, lot, other):
+    return all(set(wire) & set(lot) for wire in across(of_net, other))
+
+
+def mixed(lot, first, last):
+    return tuple(first[house] if house in lot else last[house] for house in range(len(first)))
+
+
+def is_barred(ground, of_net, table):
+    """Whether the net bars the table, by going through all lots, and all chains of all settings."""
+    (form, fears), told = ground, dict(zip(all_settings(ground[0]), table))
+    many = len(form)
+    for lot in all_lots(many):
+        if lot == () or len(lot) == many:
+            continue
+        if not across(of_net, lot) and len(set(table)) > 1:
+            return True
+        hearers = [some for some in all_lots(many) if helper.feared(fears, some) and hearing(of_net, some, lot)]
+        for first in told:
+            linked = chained(told, hearers, first)
+            if any(told[mixed(lot, first, last)] != told[first] for last in linked):
+                return True
+    return False
+
+
+def chained(told, hearers, first):
+    """All settings to which a chain leads from the first one."""
+    found, new = {first}, {first}
+    while new:
+        new = {place for place in told if place not in found and any(
+            told[place] == told[one] and any(on_lot(place, some) == on_lot(one, some) for some in hearers) for one in new)}
+        found |= new
+    return found
+
+
+def hangs(form, table, house):
+    told = dict(zip(all_settings(form), table))
+    return any(told[helper.changed(place, house, choice)] != told[place] for place in told for choice in range(form[house]))
+
+
+def is_core(ground, of_net, table, lot):
+    """Whether the lot is a core, by its definition, the houses keeping their numbers."""
+    (form, fears), told = ground, dict(zip(all_settings(ground[0]), table))
+    many, outside = len(form), rest(len(form), lot)
+    if lot == () or any(hangs(form, table, house) for house in outside):
+        return False
+    feared = [some for some in all_lots(many) if helper.feared(fears, some) and set(some) <= set(lot)]
+    within = tuple(wire for wire in of_net if set(wire) <= set(lot))
+    for some in feared:
+        if any(not ways_past(many, within, some, one, other) for one, other in combinations([h for h in lot if h not in some], 2)):
+            return False
+    if len(set(table)) > 1 and any(not ways_past(many, of_net, (), one, other) for one, other in combinations(range(many), 2)):
+        return False
+    own_form = tuple(form[house] if house in lot else 1 for house in range(many))
+    own_table = tuple(told[place] for place in all_settings(own_form))
+    # A parting of the core's ground; the houses outside, of one choice now, count for nothing.
+    sides_of_core = [some for some in feared if tuple(h for h in lot if h not in some) in feared]
+    return all(helper.seam(own_form, own_table, some) for some in sides_of_core)
+
+
+def core_atoms(ground, lot):
+    """The atoms of the ground of the core, whose houses keep their numbers."""
+    feared = [some for some in all_lots(len(ground[0])) if helper.feared(ground[1], some) and set(some) <= set(lot)]
+    found = [some for some in feared if tuple(house for house in lot if house not in some) in feared]
+    return sorted({tuple(other for other in lot if all((house in some) == (other in some) for some in found)) for house in lot})
+
+
+def routes(value):
+    """Whether any value is routes."""
+    if type(value) is not tuple or not all(type(one) is tuple and len(one) == 2 and number(one[0]) for one in value):
+        return False
+    for _, some in value:
+        if type(some) is not tuple or some == () or not all(type(way) is tuple and len(way) > 1 for way in some):
+            return False
+        if not all(number(house) for way in some for house in way) or any(len(set(way)) < len(way) for way in some):
+            return False
+    return all(one[0] < other[0] for one, other in zip(value, value[1:]))
+
+
+def routes_of_plan(of_plan):
+    """What tells whether any value is routes of the plan."""
+    form, steps, _ = of_plan
+
+    def leads(step, way):
+        return way[0] == step[1] and way[-1] == step[3] and all(house < len(form) for house in way)
+
+    def tells(value):
+        return routes(value) and all(k < len(steps) and steps[k][0] == "send" and all(leads(steps[k], way) for way in some)
+                                     for k, some in value)
+    return tells
+
+
+def carried(of_plan, of_routes, place, dice, throws):
+    """For each route its pieces, by the definition."""
+    values, ahead, found = run(of_plan, place, dice), iter(throws), []
+    for step, some in of_routes:
+        own = [next(ahead) for _ in some[1:]]
+        found.append((*own, (values[step] + sum(own)) % 2))
+    return tuple(found)
+
+
+def seen_on_net(of_plan, of_routes, lot, place, dice, throws):
+    pieces = carried(of_plan, of_routes, place, dice, throws)
+    return (view(of_plan, lot, place, dice), tuple(
+        tuple(piece if set(way) & set(lot) else None for way, piece in zip(some, own))
+        for (_, some), own in zip(of_routes, pieces)))

@@ -5,6 +5,7 @@ import unittest
 
 from closereckoned.benches import Bench
 from closereckoned.benchpieces import share_on, sum_on, times_on
+from closereckoned.carrying import carried_pieces, matched_throws, net_view
 from closereckoned.closechecker import lets_close
 from closereckoned.closepapers import close_paper, entries_at
 from closereckoned.cutchecker import lets_cut
@@ -22,6 +23,10 @@ from closereckoned.heardchecker import lets_heard
 from closereckoned.helping import dealt_pairs, helper_of, product_sums
 from closereckoned.knitting import are_knit, clumps_of, idle_houses, knit_pairs, odd_four
 from closereckoned.matching import matched_dice
+from closereckoned.netchecker import lets_net
+from closereckoned.netclasses import Mesh, Net
+from closereckoned.netfitting import core_of, hears, net_bar, net_paper, net_word
+from closereckoned.nets import is_way, mesh_of, wired_to
 from closereckoned.overhearing import can_be_heard, heard_fault, heard_paper
 from closereckoned.partings import atom_at, atoms_of
 from closereckoned.pieces import bit_of, gets_of, pieces_of
@@ -33,9 +38,15 @@ from closereckoned.planfaults import plan_fault
 from closereckoned.plantexts import plan_lines, read_plan
 from closereckoned.reckonchecker import lets_reckoned
 from closereckoned.reckonings import reckoned_at
+from closereckoned.reckonpapers import reckon_paper
+from closereckoned.routes import is_over, routes_of, throws_in
 from closereckoned.runs import ends_by, run_of, view_of
 from closereckoned.seams import clump_sum, halves_of, is_seam
+from closereckoned.secretchecker import lets_secret
+from closereckoned.secretfaults import secret_fault
+from closereckoned.secrets import between_lots, can_send, secret_paper
 from closereckoned.sidegrids import barred_parting, grid_of
+from closereckoned.sides import divides, dividing_lots, is_sturdy, needed_wires, sides_of
 from closereckoned.tableclasses import Both, Table
 from closereckoned.tables import added, answer_at, fixed
 from closereckoned.tabletexts import read_table, table_line
@@ -43,11 +54,16 @@ from closereckoned.talkfaults import talk_fault
 from closereckoned.talks import chance_at, paths_of, talk_by_tree, turns_of
 from closereckoned.terms import table_by_terms, term_value, terms_of
 from closereckoned.ties import are_tied, classes_of
+from closereckoned.toldclasses import Duo, Told
 from closereckoned.toldplans import plan_counts, plan_of
 from closereckoned.viewcounts import is_close, is_right, suits, view_counts
+from closereckoned.waysearch import way_past
 from tests.helper import BOTH, Case, EACH, EVEN, MIX, PAIR, SIDES, STAIR, WHEEL
-from tests.plainly import COIN, HIDE, MASK, PRODUCT, SUM
+from tests.plainly import COIN, FOUR as HOUSES, HIDE, LINE, MASK, PRODUCT, ROUND, SUM
+from tests.test_carrying import ROUTES, SENT
 from tests.test_cutchecker import GOOD
+from tests.test_netchecker import CORE, EVEN_BEHIND, HEARD
+from tests.test_netfitting import CHOSEN
 
 THREE, FOUR = (2, 2, 2), ((0, 0, 0), 0, 1, 1, 1)
 ALL = ((0, 1), (0, 1, 2))
@@ -89,6 +105,21 @@ CALLS = (
     (lambda one: (one.answers_now, list(one)), Chorus((2, 2), (1,), (0,))), (lambda sizes: on_bench(Bench(sizes)), (2, 2, 2)),
     (lambda tab: (str(tab), list(tab), tab.clumps_now, tab.odd(0, 1)), Table(THREE, MIX)),
     (lambda one, other: str(one + other), Table(THREE, MIX), Both(THREE, 0, 2)), (lambda tab: str(~tab), Both(THREE, 1)),
+    (reckon_paper, SIDES, MIX), (reckon_paper, PAIR, BOTH), (mesh_of, 4), (is_way, 3, LINE, (2, 1, 0)), (wired_to, 4, ROUND, 0),
+    (sides_of, 4, ROUND, (0, 2)), (divides, 3, LINE, (1,), 0, 2), (dividing_lots, 3, LINE, EACH[1]), (is_sturdy, 4, ROUND, HOUSES),
+    (needed_wires, 4, ROUND, HOUSES), (needed_wires, 3, LINE, EACH[1]), (way_past, 4, ROUND, (1,), 0, 2), (way_past, 3, LINE, (1,), 0, 2),
+    (between_lots, 4, HOUSES, 0, 2), (can_send, 4, ROUND, HOUSES, 0, 2), (secret_paper, 4, ROUND, HOUSES, 0, 2), (secret_paper, 3, LINE, EACH[1], 0, 2),
+    (lets_secret, 3, LINE, EACH[1], 0, 2, ("divided", (1,), (0,))), (lets_secret, 3, LINE, EACH[1], 0, 2, ("divided", (), (0,))),
+    (secret_fault, PAIR[1], SUM, 0, 1), (secret_fault, PAIR[1], HIDE, 0, 1), (is_over, LINE, SENT), (routes_of, ROUND, HOUSES, SENT), (routes_of, LINE, EACH[1],
+    ((2, 2, 2), (("own", 0, ()), ("send", 0, 0, 2), ("own", 1, ())), (0, 2, 0))), (throws_in, ROUTES), (carried_pieces, SENT, ROUTES, (1, 0, 0, 0), (1,), (0, 1)),
+    (net_view, SENT, ROUTES, (1,), (1, 0, 0, 0), (1,), (0, 1)),
+    (matched_throws, HOUSES, SENT, ROUTES, (1,), (0, 0, 0, 0), (1, 0, 0, 0), (0,), (1,), (0, 1)), (hears, 4, ROUND, (0, 2), (1,)), (net_bar, EACH, LINE, MIX),
+    (net_bar, PAIR, (), EVEN), (core_of, EACH, mesh_of(3), EVEN_BEHIND), (net_word, EACH, LINE, MIX), (net_paper, EACH, mesh_of(3), EVEN_BEHIND),
+    (net_paper, ((2, 2, 2), ((1,),)), LINE, CHOSEN), (lets_net, EACH, LINE, MIX, HEARD), (lets_net, EACH, mesh_of(3), EVEN_BEHIND, CORE),
+    (lambda tol: (tol.plan_now, tol.counts_now, list(tol), tol[1, 1, 0], tol.paper_for((2,))), Told(SIDES, MIX)),
+    (lambda duo: (duo.halves_now, duo.heard_by(0, (1, 2)), duo.with_table((1,) * 6).table_now), Duo((0, 1), (1, 1, 0))),
+    (lambda one: (list(~one), list(one + one), one[0], one((0,)), one.past((), 0, 2), str(one)), Net(3, *LINE)),
+    (lambda one: (one.net_now, list(one.without((1, 0)))), Mesh(3)),
 )
 
 
@@ -108,7 +139,7 @@ def answer(call):
 
 def repr_of(values):
     """As repr, but of objects what they have."""
-    return repr([vars(value) if isinstance(value, (Table, Grid, Plan)) else value for value in values])
+    return repr([vars(value) if isinstance(value, (Table, Grid, Plan, Told, Net)) else value for value in values])
 
 
 class Again(Case):

@@ -150,12 +150,34 @@ raises InvalidText(line=2, field=2)
 >>> [right_always(SUM, EVEN), right_always(COIN, (1, 0))]
 [True, False]
 >>> from closereckoned.reckonchecker import lets_reckoned
+>>> from closereckoned.reckonpapers import reckon_paper
 >>> from closereckoned.toldplans import plan_counts, plan_of
 >>> SAID = ('plan', SUM, ((), (('answer', 0),), (('answer', 1),)))
->>> [plan_counts(SUM), right_always(plan_of(SIDES, MIX), MIX), lets_reckoned(PAIR, EVEN, SAID)]
-[(0, 2, 0, 2), True, 'plan']
+>>> [plan_counts(SUM), right_always(plan_of(SIDES, MIX), MIX), lets_reckoned(PAIR, EVEN, SAID), lets_reckoned(SIDES, MIX, reckon_paper(SIDES, MIX))]
+[(0, 2, 0, 2), True, 'plan', 'plan']
 >>> lets_reckoned(PAIR, BOTH, SAID)
 raises InvalidPaper(word='wrong', at=0)
+>>> from closereckoned.toldclasses import Duo, Told
+>>> tol, duo = Told(SIDES, MIX), Duo((0, 1), (1, 1, 0))
+>>> [tol[1, 1, 0], tol.ends_at((1, 1, 0), (0,) * tol.counts_now[0]), list(tol), (0, 2) in tol, tol.with_table(MIX).table_now == (0,) * 8]
+[1, (1, 1, 1), [(), (0,), (0, 1), (1,), (2,)], False, True]
+>>> [duo.table_now, duo.halves_now, duo.heard_by(0, (1, 2)), Duo((0, 1), (0, 1)) == Told(PAIR, EVEN)]
+[(1, 1, 0, 0, 0, 1), ((0, 1), (1, 1, 0)), 0, True]
+>>> from closereckoned.sides import sides_of
+>>> LINE, ROUND, FOUR = ((0, 1), (1, 2)), ((0, 1), (0, 3), (1, 2), (2, 3)), ((0,), (1,), (2,), (3,))
+>>> [sides_of(4, ROUND, (0, 2)), sides_of(3, LINE, ())]
+[((1,), (3,)), ((0, 1, 2),)]
+>>> from closereckoned.secrets import between_lots, secret_paper
+>>> [between_lots(4, FOUR, 0, 2), secret_paper(4, ROUND, FOUR, 0, 2), secret_paper(3, LINE, EACH[1], 0, 2)]
+[((1,), (3,)), ('ways', ((0, 3, 2), (0, 1, 2))), ('divided', (1,), (0,))]
+>>> from closereckoned.netchecker import lets_net
+>>> from closereckoned.netfitting import net_paper, net_word
+>>> [net_word(EACH, LINE, MIX), net_paper(((2, 2, 2), ((1,),)), LINE, (0, 0, 0, 1, 1, 1, 0, 1)), net_word(EACH, (), (0,) * 8), lets_net(EACH, LINE, MIX, ('heard', (0,), ((0, 1, 0), (1, 1, 1)), ((1,),)))]
+['none', ('small',), 'plan', 'none']
+>>> from closereckoned.netclasses import Net
+>>> one = Net(3, (1, 0), (2, 1))
+>>> [one[1], one((1,)), list(~one), str(one)]
+[(0, 2), ((0,), (2,)), [(0, 2)], 'net / 0 1 / 1 2']
 '''
 
 

@@ -62,11 +62,25 @@ FUNCTIONS = {
     "benchpieces": "share_on(bench, lots, house, bit), sum_on(bench, lots, holdings), times_on(bench, lots, one, other)",
     "expansions": "expansion_of(plan, bit), expansion_value(plan, expansion, setting, dice), right_always(plan, table)",
     "toldplans": "plan_of(ground, table), plan_counts(plan)",
+    "reckonpapers": "reckon_paper(ground, table)",
     "reckonchecker": "lets_reckoned(ground, table, thing)",
+    "nets": "is_net(many, thing), mesh_of(many), is_way(many, net, thing), wired_to(many, net, house)",
+    "sides": "sides_of(many, net, lot), divides(many, net, lot, one, other), dividing_lots(many, net, fears), is_sturdy(many, net, fears),"
+             " needed_wires(many, net, fears)",
+    "waysearch": "way_past(many, net, lot, one, other)",
+    "secrets": "between_lots(many, fears, one, other), can_send(many, net, fears, one, other), secret_paper(many, net, fears, one, other)",
+    "secretchecker": "lets_secret(many, net, fears, one, other, thing)",
+    "secretfaults": "secret_fault(fears, plan, one, other)",
+    "routes": "is_over(net, plan), routes_of(net, fears, plan), throws_in(routes)",
+    "carrying": "carried_pieces(plan, routes, setting, dice, throws), net_view(plan, routes, lot, setting, dice, throws),"
+                " matched_throws(fears, plan, routes, lot, one, other, dice, changed, throws)",
+    "netfitting": "hears(many, net, lot, other), net_bar(ground, net, table), core_of(ground, net, table), net_word(ground, net, table),"
+                  " net_paper(ground, net, table)",
+    "netchecker": "lets_net(ground, net, table, thing)",
 }
 
 CLASSES = {"groundclasses": ("Ground", "Few"), "tableclasses": ("Table", "Both"), "gridclasses": ("Grid", "Added"),
-           "benches": ("Bench",), "planclasses": ("Plan", "Chorus")}
+           "benches": ("Bench",), "planclasses": ("Plan", "Chorus"), "toldclasses": ("Told", "Duo"), "netclasses": ("Net", "Mesh")}
 METHODS = {
     "Ground": {
         "__init__": "(self, sizes, fears)", "__call__": "(self, lot)", "__getitem__": None, "__contains__": None,
@@ -101,6 +115,18 @@ METHODS = {
         "lines": "(self)", "form_now": "property", "sizes_now": "property", "dice_now": "property", "read": "(cls, lines)",
     },
     "Chorus": {"__init__": "(self, sizes, *sets)", "answers_now": "property"},
+    "Told": {
+        "__init__": "(self, ground, table)", "__getitem__": None, "__contains__": None, "__len__": "(self)", "__iter__": "(self)",
+        "__eq__": "(self, other)", "ends_at": "(self, setting, dice)", "paper_for": "(self, lot)", "with_table": "(self, table)",
+        "ground_now": "property", "table_now": "property", "plan_now": "property", "counts_now": "property",
+    },
+    "Duo": {"__init__": "(self, one, other)", "halves_now": "property", "heard_by": "(self, house, setting)"},
+    "Net": {
+        "__init__": "(self, many, *wires)", "__call__": "(self, lot)", "__getitem__": None, "__contains__": None, "__add__": "(self, other)",
+        "__invert__": "(self)", "__len__": "(self)", "__iter__": "(self)", "__str__": "(self)", "__eq__": "(self, other)",
+        "past": "(self, lot, one, other)", "net_now": "property",
+    },
+    "Mesh": {"__init__": "(self, many)", "without": "(self, *wires)"},
 }
 
 

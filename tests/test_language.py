@@ -222,6 +222,17 @@ class Language(unittest.TestCase):
                 new = [node for node in {far for near in new for far in runs(near)} if node not in found]
             self.assertEqual([node.name for node in found if yields(node)], [], start.name)
 
+    def test_operators_and_properties_change_nothing(self):
+        runs = runs_of([tree for _, tree in self.files()])
+        starts = [node for _, tree in self.files() for node in ast.walk(tree) if is_run_by_a_sign(node)]
+        found, new = [], starts
+        while new:
+            found += new
+            new = [node for node in {far for near in new for far in runs(near)} if node not in found]
+        self.assertIn("least_cover", [node.name for node in found])
+        for node in found:
+            self.assertEqual(changes_in(node), [], node.name)
+
     def test_any_and_all_take_lists(self):
         for where, node in self.nodes(ast.Call):
             if called(node, {"any", "all", "sum", "min", "max"}):
@@ -257,22 +268,60 @@ def is_run_by_a_sign(node):
 
 
 def runs_of(trees):
-    """A function that tells what a function may run: by its names, whatever object they are read off."""
-    named = {}
+    """A function that tells what a function may run: functions by their names, methods whatever object they are read off."""
+    named, methods = {}, {}
     for tree in trees:
-        for node in ast.walk(tree):
+        for node in tree.body:
             if isinstance(node, ast.FunctionDef):
                 named.setdefault(node.name, set()).add(node)
-    for tree in trees:
-        for node in ast.walk(tree):
             if isinstance(node, ast.ClassDef):
-                named.setdefault(node.name, set()).update(named["__init__"])
+                own = [one for one in node.body if isinstance(one, ast.FunctionDef)]
+                named.setdefault(node.name, set()).update(one for one in own if one.name == "__init__")
+                for one in own:
+                    methods.setdefault(one.name, set()).add(one)
 
     def runs(node):
-        words = [one.id if isinstance(one, ast.Name) else one.attr for one in ast.walk(node)
-                 if isinstance(one, (ast.Name, ast.Attribute))]
-        return {far for word in words for far in named.get(word, ())}
+        asked = [one for call in ast.walk(node) if called(call, {"isinstance"}) for one in call.args[1:]]
+        words = {one.id for one in ast.walk(node) if isinstance(one, ast.Name) and one not in asked} - set(bound_in(node))
+        # The __init__ of a base is told by the name of the base, too.
+        reads = {one.attr for one in ast.walk(node) if isinstance(one, ast.Attribute)} - {"__init__"}
+        return {far for word in words for far in named.get(word, ())} | {far for word in reads for far in methods.get(word, ())}
     return runs
+
+
+CHANGING = set("append clear extend insert pop remove reverse setdefault update add discard sort".split())
+
+
+def changes_in(node):
+    """What a function changes that it may not have made itself: by the lines."""
+    found = []
+    for one in ast.walk(node):
+        targets = one.targets if isinstance(one, ast.Assign) else [one.target] if isinstance(one, ast.AugAssign) else []
+        for target in targets:
+            if isinstance(target, ast.Attribute) and (node.name != "__init__" or target.value.id != "self"):
+                found.append(target.lineno)
+            if isinstance(target, ast.Subscript) and not is_made_in(node, target.value):
+                found.append(target.lineno)
+        if isinstance(one, ast.Call) and isinstance(one.func, ast.Attribute) and one.func.attr in CHANGING:
+            if not is_made_in(node, one.func.value):
+                found.append(one.lineno)
+    return found
+
+
+def is_made_in(node, base):
+    """Whether a list or dict is a local one, which the function is seen to make itself wherever it assigns it."""
+    if isinstance(base, ast.Call) and isinstance(base.func, ast.Attribute) and base.func.attr == "setdefault":
+        return isinstance(base.args[1], (ast.List, ast.Dict)) and is_made_in(node, base.func.value)
+    if not isinstance(base, ast.Name) or base.id in [one.arg for one in ast.walk(node.args) if isinstance(one, ast.arg)]:
+        return False
+    told = [one for one in ast.walk(node) if isinstance(one, ast.Assign)
+            and base.id in [name.id for target in one.targets for name in ast.walk(target) if isinstance(name, ast.Name)]
+            and not isinstance(one.targets[0], ast.Subscript)]
+    made = (ast.List, ast.Dict, ast.ListComp, ast.DictComp)
+    return told != [] and all(isinstance(one.targets[0], ast.Name) and (
+        isinstance(one.value, made) or called(one.value, {"list", "dict", "sorted"}) or (
+            isinstance(one.value, ast.BinOp) and isinstance(one.value.op, ast.Mult) and isinstance(one.value.left, ast.List)))
+        for one in told)
 
 
 def called(node, words):
