@@ -1,6 +1,6 @@
 """Which lots are feared, and the greatest of them that do not hold a lot."""
 
-from closereckoned.kinds import is_number, is_within
+from closereckoned.kinds import is_number, is_within, right_lot
 from closereckoned.lots import every_lot, greatest
 from closereckoned.needs import need, need_fears, need_lot, need_many, need_some_lot
 
@@ -35,6 +35,13 @@ def few_fears(many, few):
 def feared_by(fears, lot):
     """Whether all houses of the lot are in one lot of the fears."""
     return any([is_within(lot, fear) for fear in fears])
+
+
+def are_feared(many, fears, thing):
+    """Whether thing is a tuple of feared lots, perhaps equal."""
+    if not isinstance(thing, tuple):
+        return False
+    return all([right_lot(many, lot) and feared_by(fears, lot) for lot in thing])
 
 
 def all_feared(many, fears):

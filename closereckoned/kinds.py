@@ -6,6 +6,9 @@ interface, but take what tells the houses as judged already.
 
 from closereckoned.errors import NotUsable
 
+# So many houses fears may have where nothing tells how many there are, and so many can enter.
+MOST_HOUSES = 6
+
 
 def is_integer(thing):
     """Whether thing is an int that is not a bool."""

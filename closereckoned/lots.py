@@ -74,3 +74,11 @@ def lot_behind(many, lot):
     if len(lot) == 1:
         return None
     return (*lot[:-2], lot[-2] + 1)
+
+
+def rising_rows(many, length):
+    """All rows of so many numbers below many, none less than the one ahead of it, in ascending order."""
+    rows = [()]
+    for _ in range(length):
+        rows = [(*row, k) for row in rows for k in range(row[-1] if len(row) > 0 else 0, many)]
+    return rows

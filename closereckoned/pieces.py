@@ -23,6 +23,11 @@ def gets_of(many, lots, house, pieces):
     need(are_lots(many, lots), "lots")
     need_house(many, house)
     need(are_bits(pieces) and len(pieces) == len(lots), "pieces")
+    return pieces_got(lots, house, pieces)
+
+
+def pieces_got(lots, house, pieces):
+    """The pieces for the lots without the house, in order."""
     return tuple([piece for lot, piece in zip(lots, pieces) if house not in lot])
 
 

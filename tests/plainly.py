@@ -1,4 +1,4 @@
-"""Plain goings through all lanes and paths of talks, all settings and dice of plans, all ways of nets, for the tests."""
+"""Plain goings through all lanes and paths of talks, settings and dice of plans, ways of nets, and deals, for the tests."""
 
 from collections import Counter
 from fractions import Fraction
@@ -510,3 +510,113 @@ def seen_on_net(of_plan, of_routes, lot, place, dice, throws):
     return (view(of_plan, lot, place, dice), tuple(
         tuple(piece if set(way) & set(lot) else None for way, piece in zip(some, own))
         for (_, some), own in zip(of_routes, pieces)))
+
+
+HIDDEN = ((((0,), (0,)), ((1,), (1,))), (((0,), (1,)), ((1,), (0,))))
+NEAR_DEALS = (
+    ((0,), (0,)), ((), ()), ((0, 1), ()), ((0,),), ((0,), (0,), (0,)), [(0,), (0,)], ([0], (0,)), ((0,), (True,)), ((0,), (2,)),
+    ((0,), None),
+    (0, 0), ((0,), (-1,)), ((), (), ()), ("0", "1"), (((0,),), ((0,),)))
+
+
+def deal(many):
+    """What tells whether any value is a deal of so many houses."""
+    def tells(value):
+        if type(value) is not tuple or len(value) != many or not all(type(got) is tuple for got in value):
+            return False
+        return all(helper.bit(one) for got in value for one in got)
+    return tells
+
+
+def dealing(many):
+    def tells(value):
+        if type(value) is not tuple or len(value) != 2 or not all(type(deals) is tuple and deals != () for deals in value):
+            return False
+        return all(deal(many)(one) for deals in value for one in deals)
+    return tells
+
+
+def near_dealings(good):
+    """The dealing with one thing of it changed, whether it is still one or not."""
+    zeros, ones = good
+    found = [list(good), good[:1], (*good, ones), (list(zeros), ones), (zeros, list(ones)), ((), ones), (zeros, ()), (zeros, zeros),
+             (None, ones), (zeros, None), zeros, zeros[0]]
+    for other in NEAR_DEALS:
+        found += [((other, *zeros), ones), (zeros, (*ones, other)), ((other,), ones)]
+    return tuple(found)
+
+
+NEAR_DEALINGS = near_dealings(HIDDEN)
+
+
+def shares(of_dealing, lot):
+    """For each view of the lot its shares of the zeros and of the ones."""
+    views = [[on_lot(one, lot) for one in deals] for deals in of_dealing]
+    return {view: tuple(Fraction(own.count(view), len(own)) for own in views) for view in {*views[0], *views[1]}}
+
+
+def deal_faults(many, fears, of_dealing, grade):
+    """All faults of a dealing, by going through all feared lots, and all deals."""
+    feared = [lot for lot in all_lots(many) if helper.feared(fears, lot)]
+    found = {("seen", lot, view) for lot in feared for view, own in shares(of_dealing, lot).items() if own[0] != own[1]}
+    for (k, zero), (j, one) in product(enumerate(of_dealing[0]), enumerate(of_dealing[1])):
+        unlike = {house for house in range(many) if zero[house] != one[house]}
+        found |= {("alike", k, j, lots) for lots in product(feared, repeat=grade) if unlike <= {house for lot in lots for house in lot}}
+    return found
+
+
+def thrown_dealing(rnd, many, most, bits=1):
+    """A dealing that looks thrown, its houses getting as many bits each."""
+    def thrown():
+        return tuple(tuple(rnd.randrange(2) for _ in range(bits)) for _ in range(many))
+    return tuple(tuple(thrown() for _ in range(rnd.randrange(1, most + 1))) for _ in range(2))
+
+
+def gets(fears, house):
+    """The indexes of the pieces that the house gets."""
+    return [k for k, lot in enumerate(fears) if house not in lot]
+
+
+def dealt(many, fears, pieces):
+    return tuple(tuple(pieces[k] for k in gets(fears, house)) for house in range(many))
+
+
+def pieces(fears):
+    """What tells whether any value is pieces for the fears."""
+    return lambda value: type(value) is tuple and len(value) == len(fears) and all(helper.bit(one) for one in value)
+
+
+def said(fears, houses):
+    """What tells whether any value is what these houses may say."""
+    def tells(value):
+        if type(value) is not tuple or len(value) != len(houses) or not all(type(own) is tuple for own in value):
+            return False
+        if any(len(own) != len(gets(fears, house)) for house, own in zip(houses, value)):
+            return False
+        return all(one is None or helper.bit(one) for own in value for one in own)
+    return tells
+
+
+def saying(fears, value, k, bit):
+    """The houses that get piece k and do not say that it is the bit."""
+    return tuple(house for house, own in enumerate(value) if k in gets(fears, house) and own[gets(fears, house).index(k)] != bit)
+
+
+def hours(fears):
+    """What tells whether any value is hours."""
+    def tells(value):
+        if type(value) is not tuple or value == () or not all(pieces(fears)(own) for own in value):
+            return False
+        return all(sum(own) % 2 == 0 for own in value[1:])
+    return tells
+
+
+def at_hour(value, hour):
+    return tuple(sum(bits) % 2 for bits in zip(*value[:hour + 1]))
+
+
+def feared_rows(many, fears, length):
+    """What tells whether any value is a tuple of so many feared lots."""
+    def tells(value):
+        return type(value) is tuple and len(value) == length and all(helper.lot(many)(lot) and helper.feared(fears, lot) for lot in value)
+    return tells

@@ -1,4 +1,4 @@
-"""The examples of the document for the modules that have landed, word for word."""
+"""The examples of the document, word for word."""
 
 import os
 import unittest
@@ -178,6 +178,64 @@ raises InvalidPaper(word='wrong', at=0)
 >>> one = Net(3, (1, 0), (2, 1))
 >>> [one[1], one((1,)), list(~one), str(one)]
 [(0, 2), ((0,), (2,)), [(0, 2)], 'net / 0 1 / 1 2']
+>>> from closereckoned.dealings import has_grade, is_close_for, view_shares
+>>> HIDDEN = ((((0,), (0,)), ((1,), (1,))), (((0,), (1,)), ((1,), (0,))))
+>>> [is_close_for(2, HIDDEN, (0, 1)), has_grade(2, PAIR[1], HIDDEN, 0)]
+[False, True]
+>>> view_shares(2, HIDDEN, (0,))
+((((0,),), (1, 2), (1, 2)), (((1,),), (1, 2), (1, 2)))
+>>> from closereckoned.dealfaultchecker import lets_deal_fault
+>>> lets_deal_fault(2, PAIR[1], HIDDEN, 1, ("alike", 0, 0, ((0,),)))
+raises InvalidPaper(word='unlike', at=1)
+>>> from closereckoned.gradechecker import lets_grade
+>>> from closereckoned.grades import grade_of
+>>> [grade_of(2, PAIR[1]), grade_of(3, ((),)), grade_of(1, ((0,),)), lets_grade(3, EACH[1], 1, ("left", (1, 2, 1, 0, 0, 0)))]
+[0, 2, None, 'left']
+>>> lets_grade(3, EACH[1], 1, ("left", (1, 2, 1, 0, 0, 2)))
+raises InvalidPaper(word='inside', at=5)
+>>> from closereckoned.piecedeals import bit_told, piece_deal, pieces_dealing
+>>> [piece_deal(3, EACH[1], (1, 0, 1)), bit_told(3, EACH[1], (0, 1), ((0, 1), (1, 1)))]
+[((0, 1), (1, 1), (1, 0)), 0]
+>>> pieces_dealing(2, PAIR[1])[1]
+(((1,), (0,)), ((0,), (1,)))
+>>> from closereckoned.reading import liars_in, read_said
+>>> FOUR, SAID = ((0,), (1,), (2,), (3,)), ((0, 0, 1), (1, 0, 1), (0, None, 1), (1, 0, 0))
+>>> [read_said(4, FOUR, SAID), liars_in(4, FOUR, SAID)]
+[0, (2,)]
+>>> read_said(3, EACH[1], ((0, 1), (1, 1), (0, 0)))
+raises Unread(piece=0)
+>>> from closereckoned.hours import matched_hours, pieces_at
+>>> HOURS, LOTS = ((1, 0, 0), (1, 0, 1), (0, 1, 1)), ((0,), (2,), ())
+>>> [pieces_at(EACH[1], HOURS, 2), matched_hours(3, EACH[1], HOURS, LOTS)]
+[(0, 1, 0), ((0, 0, 0), (0, 0, 0), (1, 1, 0))]
+>>> from closereckoned.dealclasses import Dealt, Renewed
+>>> one, two = Dealt(3, EACH[1], (1, 0, 1)), Renewed(3, EACH[1], HOURS)
+>>> [one[1], one((0, 2)), (1,) in one, (one + two).pieces_now, two.matched(*LOTS).bit_now, one.read_with((), ())]
+[(1, 1), ((0, 1), (1, 0)), False, (1, 1, 1), 0, 0]
+>>> from closereckoned.live import LiveHouses
+>>> live = LiveHouses(EACH, ((0, 1), (0, 2), (1, 2)), (0, 0, 0, 0, 0, 0, 1, 1))
+>>> [live.word_now, live.atoms_now, live.clumps_now, live.grade_now, live.unwire(1, 0)[1], live.word_now, live.fits_now, live.wire(0, 1)[1]]
+['plan', ((0, 1, 2),), ((0, 1), (2,)), 1, ((0, 2), (1, 2)), 'none', True, ((0, 1), (0, 2), (1, 2))]
+>>> [live.leave(2, 0), live.fits_now, live.grade_now, live.enter()[0], live.fits_now, live.word_now, live.grade_now]
+[(((2, 2), ((0,), (1,))), ((0, 1),), (0, 0, 0, 1)), False, 0, ((2, 2, 1), ((0,), (1,))), True, 'none', 2]
+>>> [live.undo(), live.barred(('enter',)), live.barred(('wire', 0, 0)), live.barred(('calm', (0, 1))), live[(1, 1)], live.tally(), len(live)]
+[('enter',), None, 'wire', 'same', 1, (5, 5), 3]
+>>> other = LiveHouses(SIDES, (), MIX)
+>>> [other.fits_now, other.fear((1, 2))[0][1], other.fits_now, other.calm((1,))[0][1], other.answer((0, 0, 0), 1)[2]]
+[True, ((0, 1), (1, 2)), False, ((0,), (2,)), (1, 1, 0, 1, 0, 1, 1, 0)]
+>>> live.leave(0, 2)
+raises InvalidEvent(event=('leave', 0, 2), reason='choice')
+>>> from closereckoned.desk import Desk
+>>> from closereckoned.eventtexts import event_line, log_lines, read_event, read_log
+>>> desk = Desk()
+>>> [desk.say('begin ground 2 2 / 0 / 1 net / 0 1 table 2 2 / 0 1 1 0'), desk.say('word'), desk.say('bars fear 0'), desk.say('answer 1 0 0'), desk.say('fits'), desk.say('clumps'), desk.say('undo')]
+['ok', 'plan', 'same', 'none', 'no', '0 1', 'answer 1 0 0']
+>>> [desk.say('log'), desk.say('leave 1 0'), desk.say('ground'), desk.say('net'), desk.say('grade'), desk.counts()]
+['-', 'plan', 'ground 2 / 0', 'net', '-', (12, 12)]
+>>> [event_line(('answer', (0, 1), 1)), event_line(('fear', ())), read_event('wire 1 0'), log_lines(other.log())[:3], read_log(log_lines(live.log())) == live.log()]
+['answer 1 0 1', 'fear', ('wire', 1, 0), ['ground 2 2 2 / 0 1 / 2', 'net', 'table 2 2 2 / 0 1 0 1 0 1 1 0'], True]
+>>> read_event('wire 0')
+raises InvalidText(line=0, field=2)
 '''
 
 

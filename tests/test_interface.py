@@ -1,4 +1,4 @@
-"""Names, arguments and places of what the document lists, as far as it has landed."""
+"""Names, arguments and places of what the document lists."""
 
 import ast
 import inspect
@@ -77,10 +77,24 @@ FUNCTIONS = {
     "netfitting": "hears(many, net, lot, other), net_bar(ground, net, table), core_of(ground, net, table), net_word(ground, net, table),"
                   " net_paper(ground, net, table)",
     "netchecker": "lets_net(ground, net, table, thing)",
+    "dealings": "is_deal(many, thing), is_dealing(many, thing), deal_view(many, lot, deal), view_shares(many, dealing, lot),"
+                " is_close_for(many, dealing, lot), has_grade(many, fears, dealing, grade)",
+    "dealfaults": "deal_fault(many, fears, dealing, grade)",
+    "dealfaultchecker": "lets_deal_fault(many, fears, dealing, grade, thing)",
+    "grades": "grade_of(many, fears), grade_paper(many, fears, grade)",
+    "gradechecker": "lets_grade(many, fears, grade, thing)",
+    "piecedeals": "piece_deal(many, fears, pieces), pieces_dealing(many, fears), tells(many, fears, lot), bit_told(many, fears, lot, seen),"
+                  " added_deals(many, one, other)",
+    "reading": "read_said(many, fears, said), read_sure(many, fears, said), liars_in(many, fears, said)",
+    "hours": "pieces_at(fears, hours, hour), hours_view(many, fears, hours, lots), matched_hours(many, fears, hours, lots)",
+    "liveevents": "is_event(thing), is_log(thing)",
+    "replaying": "replayed(log)",
+    "eventtexts": "event_line(event), log_lines(log), read_event(text), read_log(lines)",
 }
 
 CLASSES = {"groundclasses": ("Ground", "Few"), "tableclasses": ("Table", "Both"), "gridclasses": ("Grid", "Added"),
-           "benches": ("Bench",), "planclasses": ("Plan", "Chorus"), "toldclasses": ("Told", "Duo"), "netclasses": ("Net", "Mesh")}
+           "benches": ("Bench",), "planclasses": ("Plan", "Chorus"), "toldclasses": ("Told", "Duo"), "netclasses": ("Net", "Mesh"),
+           "dealclasses": ("Dealt", "Renewed"), "live": ("LiveHouses",), "desk": ("Desk",)}
 METHODS = {
     "Ground": {
         "__init__": "(self, sizes, fears)", "__call__": "(self, lot)", "__getitem__": None, "__contains__": None,
@@ -122,11 +136,36 @@ METHODS = {
     },
     "Duo": {"__init__": "(self, one, other)", "halves_now": "property", "heard_by": "(self, house, setting)"},
     "Net": {
-        "__init__": "(self, many, *wires)", "__call__": "(self, lot)", "__getitem__": None, "__contains__": None, "__add__": "(self, other)",
+        "__init__": "(self, many, *wires)", "__call__": "(self, lot)", "__getitem__": None, "__contains__": None,
+        "__add__": "(self, other)",
         "__invert__": "(self)", "__len__": "(self)", "__iter__": "(self)", "__str__": "(self)", "__eq__": "(self, other)",
         "past": "(self, lot, one, other)", "net_now": "property",
     },
     "Mesh": {"__init__": "(self, many)", "without": "(self, *wires)"},
+    "Dealt": {
+        "__init__": "(self, many, fears, pieces)", "__call__": "(self, lot)", "__getitem__": None, "__contains__": None,
+        "__add__": "(self, other)",
+        "__len__": "(self)", "__iter__": "(self)", "__eq__": "(self, other)", "told_by": "(self, lot)", "said_with": "(self, lot, said)",
+        "read_with": "(self, lot, said)", "sure_with": "(self, lot, said)", "many_now": "property", "fears_now": "property",
+        "pieces_now": "property", "bit_now": "property", "deal_now": "property",
+    },
+    "Renewed": {
+        "__init__": "(self, many, fears, hours)", "hours_now": "property", "at_hour": "(self, hour)", "seen_by": "(self, *lots)",
+        "matched": "(self, *lots)", "renewed": "(self, noughts)",
+    },
+    "LiveHouses": {
+        "__init__": "(self, ground, net, table)", "ground_now": "property", "net_now": "property", "table_now": "property",
+        "fits_now": "property",
+        "word_now": "property", "atoms_now": "property", "clumps_now": "property", "grade_now": "property", "fear": "(self, lot)",
+        "calm": "(self, lot)",
+        "answer": "(self, setting, bit)", "wire": "(self, one, other)", "unwire": "(self, one, other)", "leave": "(self, house, choice)",
+        "enter": "(self)",
+        "go": "(self, event)", "barred": "(self, event)", "tried": "(self, *events)", "undo": "(self)",
+        "do_all": "(self, *events, keep=False)",
+        "tally": "(self)", "log": "(self)", "__getitem__": None, "__contains__": None, "__len__": "(self)", "__iter__": "(self)",
+        "__eq__": "(self, other)",
+    },
+    "Desk": {"__init__": "(self)", "say": "(self, row)", "counts": "(self)"},
 }
 
 

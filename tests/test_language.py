@@ -32,7 +32,7 @@ BARRED_WORDS = set(
 BARRED_FILES = set("test tests testing site conftest sitecustomize usercustomize heapq math itertools".split())
 NO_NODES = (
     ast.AsyncFunctionDef, ast.AsyncFor, ast.AsyncWith, ast.Await, ast.Global, ast.Nonlocal, ast.Lambda, ast.GeneratorExp,
-    ast.Div, ast.MatMult, ast.AnnAssign, ast.Try, ast.With, ast.Match, ast.NamedExpr, ast.Delete, ast.YieldFrom)
+    ast.Div, ast.MatMult, ast.AnnAssign, ast.With, ast.Match, ast.NamedExpr, ast.Delete, ast.YieldFrom)
 
 
 def text_of(name):
@@ -96,6 +96,25 @@ class Language(unittest.TestCase):
         for where, node in self.nodes(ast.Constant):
             self.assertNotIsInstance(node.value, (float, complex, bytes), where)
 
+    def test_own_errors_alone_are_caught(self):
+        own = {node.name for node in tree_of("errors.py").body if isinstance(node, ast.ClassDef)}
+        for where, node in self.nodes(ast.Try):
+            self.assertTrue(node.handlers and not node.orelse and not node.finalbody, where)
+            for handler in node.handlers:
+                self.assertIn(handler.type.id, own, where)
+                # Its name is there to read its fields, and for nothing else.
+                reads = [one for one in ast.walk(handler) if isinstance(one, ast.Attribute) and isinstance(one.value, ast.Name)]
+                names = [one for one in ast.walk(handler) if isinstance(one, ast.Name) and one.id == handler.name]
+                self.assertLessEqual(len(names), len([one for one in reads if one.value.id == handler.name]), where)
+        for where, node in self.nodes(ast.Raise):
+            self.assertTrue(isinstance(node.exc, ast.Call) and node.exc.func.id in own and not node.exc.keywords, where)
+
+    def test_stars_in_calls(self):
+        for where, node in self.nodes(ast.Call):
+            for one in node.args:
+                if isinstance(one, ast.Starred):
+                    self.assertIsInstance(one.value, (ast.Name, ast.Tuple, ast.List), where)
+
     def test_module_level(self):
         for name, tree in self.files():
             bound = []
@@ -132,7 +151,9 @@ class Language(unittest.TestCase):
             return
         package, _, stem = node.module.partition(".")
         self.assertEqual(package, "closereckoned")
-        defined = {one.name for one in tree_of(f"{stem}.py").body if isinstance(one, (ast.FunctionDef, ast.ClassDef))}
+        body = tree_of(f"{stem}.py").body
+        defined = {one.name for one in body if isinstance(one, (ast.FunctionDef, ast.ClassDef))}
+        defined |= {one.targets[0].id for one in body if isinstance(one, ast.Assign) and isinstance(one.value, ast.Constant)}
         self.assertLessEqual(set(words), defined)
 
     def test_no_circle_of_imports(self):
@@ -229,14 +250,14 @@ class Language(unittest.TestCase):
         while new:
             found += new
             new = [node for node in {far for near in new for far in runs(near)} if node not in found]
-        self.assertIn("least_cover", [node.name for node in found])
+        self.assertLessEqual({"least_cover", "links_from"}, {node.name for node in found})
         for node in found:
             self.assertEqual(changes_in(node), [], node.name)
 
     def test_any_and_all_take_lists(self):
         for where, node in self.nodes(ast.Call):
-            if called(node, {"any", "all", "sum", "min", "max"}):
-                self.assertIsInstance(node.args[0], (ast.ListComp, ast.Name), where)
+            if called(node, {"any", "all", "sum", "min", "max"}) and len(node.args) == 1:
+                self.assertIsInstance(node.args[0], (ast.ListComp, ast.Name, ast.Attribute), where)
 
     def test_what_is_returned_by_len_and_iteration(self):
         for where, node in self.nodes(ast.FunctionDef):
