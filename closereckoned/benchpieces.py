@@ -49,7 +49,7 @@ def shared(bench, lots, house, bit):
             if other != house:
                 bench.send(house, piece, other)
     return tuple([
-        tuple([None if other in lot else piece for lot, piece in zip(lots, pieces)]) for other in range(many)])
+        tuple([None if keeper in some else own for some, own in zip(lots, pieces)]) for keeper in range(many)])
 
 
 def summed_up(bench, lots, holdings):

@@ -88,7 +88,7 @@ def alike_deals(many, fears, dealing, grade):
     for k, zero in enumerate(zeros):
         for j, one in enumerate(ones):
             firsts.setdefault(tuple([house for house in range(many) if zero[house] != one[house]]), (k, j))
-    rows = [tuple([fears[k] for k in row]) for row in rising_rows(len(fears), grade)]
+    rows = [tuple([fears[index] for index in row]) for row in rising_rows(len(fears), grade)]
     for unlike in firsts:
         for lots in rows:
             if all([any([house in lot for lot in lots]) for house in unlike]):

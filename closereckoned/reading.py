@@ -67,4 +67,4 @@ def need_said(many, fears, said):
     """Refuse many, then fears unless some house is outside of each of their lots, then said unless it is as stated."""
     need_many(many)
     need(right_fears(many, fears) and not any([len(lot) == many for lot in fears]), "fears")
-    need(are_said(fears, list(range(many)), said), "said")
+    need(isinstance(said, tuple) and len(said) == many and are_said(fears, list(range(many)), said), "said")

@@ -16,9 +16,9 @@ from tests.test_tabletexts import verdict as table_verdict
 
 NUMBER = re.compile("0|[1-9][0-9]{0,59}")
 EVENTS = [thing for thing in NEAR_EVENTS if event(thing)]
-LINES = ("fear", "fear 0", "fear 0 2 5", "calm 1", "calm", "answer 1 0 1", "answer 0 2", "answer", "answer 1", "wire 1 0", "wire 0",
-         "unwire 2 2", "leave 0 3", "leave 0 0 0",
-         "enter", "enter 0", "", "begin", "undo", "fear 1 0", "wire 0 1 2")
+LINES = (
+    "fear", "fear 0", "fear 0 2 5", "calm 1", "calm", "answer 1 0 1", "answer 0 2", "answer", "answer 1", "wire 1 0", "wire 0",
+    "unwire 2 2", "leave 0 3", "leave 0 0 0", "enter", "enter 0", "", "begin", "undo", "fear 1 0", "wire 0 1 2")
 WORDS = ("", "0", "1", "2", "9", "01", "-1", "+1", "1.0", "/", "fear", "enter", "Fear", "net", "x", "\n", "1\n", "1_0", "True", "9" * 60,
          "1" + "0" * 60, "\t1", "answer")
 NETS = ("net", "net / 0 1", "net / 0 1 / 0 2 / 1 2", "net / 1 2", "net / 0", "net /", "net / 0 2 / 0 1", "net / 1 0", "net / 0 1 / 0 1",

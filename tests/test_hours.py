@@ -10,8 +10,7 @@ from tests.plainly import at_hour, dealt, feared_rows
 HOURS, LOTS = ((1, 0, 0), (1, 0, 1), (0, 1, 1)), ((0,), (2,), ())
 NEAR_HOURS = (
     [*HOURS], (), HOURS[:1], (HOURS[1], *HOURS), (*HOURS, HOURS[0]), (*HOURS, (0, 0)), (*HOURS, (0, 0, True)), (*HOURS, [0, 0, 0]),
-    (*HOURS, None), ([1, 0, 0],),
-    ((1, 0),), ((1, 0, 2),), ((True, 0, 0),), (None,), HOURS[0], ((1, 0, 0), (1, 1, 1)))
+    (*HOURS, None), ([1, 0, 0],), ((1, 0),), ((1, 0, 2),), ((True, 0, 0),), (None,), HOURS[0], ((1, 0, 0), (1, 1, 1)))
 
 
 def thrown_hours(rnd, fears, many):

@@ -74,31 +74,25 @@ def nested(depth, kind, within=()):
 
 ANYTHING = (
     nested(30, tuple), nested(30, list), nested(29, tuple, [0]), nested(28, list, (BIG,)), tuple(range(5000)), list(range(5000)),
-    ((0,),) * 5000, ("ways",) * 5000,
-    BIG, -BIG, "x" * 4000, "0 " * 2000, "\n", (BIG,) * 3, ("plan", nested(29, tuple), ()), ("tree", nested(29, tuple)),
-    ("tied", (BIG,), (BIG,)),
-    ("sum", 0, tuple(range(4000))), ("odd", (0,), nested(25, tuple)), ("left", tuple(range(5000))), ("all", nested(20, tuple)),
-    ("ways", ((0,) * 4000,)),
-    ("divided", tuple(range(4000)), (0,)), ("heard", (0,), ((0, 0),) * 2000, ((0,),) * 1999), ("core", (0,), 0, ((),) * 4000),
-    ("asunder", (0,), nested(28, list), 0),
-    ("seen", (0,), nested(28, tuple)), ("alike", BIG, BIG, ((),) * 3000), ("wrong", nested(20, tuple), (), BIG), ("helped", (BIG,) * 4000),
-    ("parted", (BIG,), [BIG]),
-    (("begin", nested(20, tuple), (), ()),), ("answer", (BIG,) * 4000, 1), ("fear", tuple(range(4999))), ("enter", nested(29, list)),
-    (True, False, None, "", -1))
+    ((0,),) * 5000, ("ways",) * 5000, BIG, -BIG, "x" * 4000, "0 " * 2000, "\n", (BIG,) * 3, ("plan", nested(29, tuple), ()),
+    ("tree", nested(29, tuple)), ("tied", (BIG,), (BIG,)), ("sum", 0, tuple(range(4000))), ("odd", (0,), nested(25, tuple)),
+    ("left", tuple(range(5000))), ("all", nested(20, tuple)), ("ways", ((0,) * 4000,)), ("divided", tuple(range(4000)), (0,)),
+    ("heard", (0,), ((0, 0),) * 2000, ((0,),) * 1999), ("core", (0,), 0, ((),) * 4000), ("asunder", (0,), nested(28, list), 0),
+    ("seen", (0,), nested(28, tuple)), ("alike", BIG, BIG, ((),) * 3000), ("wrong", nested(20, tuple), (), BIG),
+    ("helped", (BIG,) * 4000), ("parted", (BIG,), [BIG]), (("begin", nested(20, tuple), (), ()),), ("answer", (BIG,) * 4000, 1),
+    ("fear", tuple(range(4999))), ("enter", nested(29, list)), (True, False, None, "", -1))
 OBJECTS = (Ground(*PAIR), Table((2, 2), EVEN), Plan(SUM), Told(PAIR, EVEN), Net(3, *LINE), Mesh(2), Dealt(2, PAIR[1], (0, 1)),
            LiveHouses(PAIR, (), EVEN), Desk())
 
 CHECKERS = (
     (lets_atom, 3, SIDES[1], (0, 1)), (lets_fit, PAIR, EVEN), (lets_cut, STAIR), (lets_fault, STAIR, COIN), (lets_heard, STAIR),
-    (lets_plan,),
-    (lets_plan_fault, PAIR, EVEN, HIDE), (lets_close, MASK, (1,)), (lets_reckoned, PAIR, EVEN), (lets_secret, 3, LINE, SIDES[1], 0, 2),
-    (lets_net, SIDES, LINE, MIX),
-    (lets_deal_fault, 2, PAIR[1], HIDDEN, 1), (lets_grade, 3, SIDES[1], 1))
+    (lets_plan,), (lets_plan_fault, PAIR, EVEN, HIDE), (lets_close, MASK, (1,)), (lets_reckoned, PAIR, EVEN),
+    (lets_secret, 3, LINE, SIDES[1], 0, 2), (lets_net, SIDES, LINE, MIX), (lets_deal_fault, 2, PAIR[1], HIDDEN, 1),
+    (lets_grade, 3, SIDES[1], 1))
 KINDS = (
     (is_integer,), (is_number,), (is_bit,), (is_sizes,), (is_setting, (2, 2)), (is_lot, 3), (is_fears, 3), (is_ground,), (is_quotient,),
-    (is_table, (2, 2)), (is_own, (2, 2), (0,)),
-    (is_four, (2, 2)), (is_term, (2, 2)), (is_grid,), (is_block, STAIR), (is_talk, 2, 3), (is_net, 3), (is_way, 3, LINE), (is_deal, 2),
-    (is_dealing, 2), (is_event,), (is_log,))
+    (is_table, (2, 2)), (is_own, (2, 2), (0,)), (is_four, (2, 2)), (is_term, (2, 2)), (is_grid,), (is_block, STAIR), (is_talk, 2, 3),
+    (is_net, 3), (is_way, 3, LINE), (is_deal, 2), (is_dealing, 2), (is_event,), (is_log,))
 
 
 class AnyValues(Case):

@@ -7,19 +7,15 @@ from tests.helper import BIG, Case, EVEN, MIX, ODD_VALUES, PAIR, SIDES
 
 NEAR_EVENTS = (
     ("fear", ()), ("fear", (0, 1)), ("fear", (BIG,)), ("calm", (2,)), ("calm", ()), ("answer", (0, 1), 1), ("answer", (BIG, 0), 0),
-    ("wire", 0, 0), ("wire", BIG, 7),
-    ("unwire", 1, 0), ("leave", 0, 0), ("leave", 9, BIG), ("enter",),
-    ("fear",), ("fear", None), ("fear", [0]), ("fear", (1, 0)), ("fear", (0, 0)), ("fear", (True,)), ("fear", (-1,)), ("fear", 0),
-    ("fear", (0,), ()), ("fear", ((0,),)),
-    ("calm", (0, None)), ("calm", "0"), ["fear", (0,)], ("Fear", (0,)), (("fear",), (0,)), ("answer", (), 1), ("answer", (0, 1), True),
-    ("answer", (0, 1), 2),
-    ("answer", [0, 1], 1), ("answer", (0, 1)), ("answer", (0, True), 1), ("answer", (0, 1), 1, 0), ("answer", 1, (0, 1)),
-    ("answer", (0, -1), 0), ("answer", (0,), None),
-    ("wire", 0), ("wire", 0, True), ("wire", False, 1), ("wire", -1, 0), ("wire", 0, 1, 2), ("wire", (0, 1)), ("unwire", None, 0),
-    ["wire", 0, 1], ("unwire", 0, (1,)),
-    ("leave", 0), ("leave", 0, None), ("leave", True, 0), ("leave", 0, 0, 0), ("enter", 0), ("enter", ()), ["enter"], "enter", ("Enter",),
-    ("undo",), ("begin",), (None,), (0, 1),
-    ("begin", PAIR, (), EVEN), ({},), ("fear", {}), (["fear"], (0,)), ("fear", ([],)), ("leave", "0", 0))
+    ("wire", 0, 0), ("wire", BIG, 7), ("unwire", 1, 0), ("leave", 0, 0), ("leave", 9, BIG), ("enter",), ("fear",), ("fear", None),
+    ("fear", [0]), ("fear", (1, 0)), ("fear", (0, 0)), ("fear", (True,)), ("fear", (-1,)), ("fear", 0), ("fear", (0,), ()),
+    ("fear", ((0,),)), ("calm", (0, None)), ("calm", "0"), ["fear", (0,)], ("Fear", (0,)), (("fear",), (0,)), ("answer", (), 1),
+    ("answer", (0, 1), True), ("answer", (0, 1), 2), ("answer", [0, 1], 1), ("answer", (0, 1)), ("answer", (0, True), 1),
+    ("answer", (0, 1), 1, 0), ("answer", 1, (0, 1)), ("answer", (0, -1), 0), ("answer", (0,), None), ("wire", 0), ("wire", 0, True),
+    ("wire", False, 1), ("wire", -1, 0), ("wire", 0, 1, 2), ("wire", (0, 1)), ("unwire", None, 0), ["wire", 0, 1], ("unwire", 0, (1,)),
+    ("leave", 0), ("leave", 0, None), ("leave", True, 0), ("leave", 0, 0, 0), ("enter", 0), ("enter", ()), ["enter"], "enter",
+    ("Enter",), ("undo",), ("begin",), (None,), (0, 1), ("begin", PAIR, (), EVEN), ({},), ("fear", {}), (["fear"], (0,)),
+    ("fear", ([],)), ("leave", "0", 0))
 
 
 def event(value):
@@ -47,12 +43,11 @@ def log(value):
 BEGIN = ("begin", SIDES, ((0, 2),), MIX)
 NEAR_LOGS = (
     (BEGIN,), (BEGIN, ("enter",)), (BEGIN, ("wire", 9, 9), ("leave", 5, 5)), (), [BEGIN], BEGIN, (BEGIN, BEGIN), (BEGIN, None),
-    (BEGIN, ["enter"]), (("enter",), BEGIN),
-    (BEGIN[:3],), ((*BEGIN, ()),), ([*BEGIN],), (("Begin", *BEGIN[1:]),), (("begin", PAIR, ((0, 2),), EVEN),), (("begin", PAIR, (), MIX),),
-    (("begin", SIDES, ((2, 0),), MIX),),
+    (BEGIN, ["enter"]), (("enter",), BEGIN), (BEGIN[:3],), ((*BEGIN, ()),), ([*BEGIN],), (("Begin", *BEGIN[1:]),),
+    (("begin", PAIR, ((0, 2),), EVEN),), (("begin", PAIR, (), MIX),), (("begin", SIDES, ((2, 0),), MIX),),
     (("begin", list(SIDES), (), MIX),), (("begin", SIDES, [], MIX),), (("begin", SIDES, (), list(MIX)),), (("begin", None, (), MIX),),
-    (("begin", SIDES, None, MIX),),
-    (BEGIN, ("fear", (True,))), (BEGIN, ("enter",), ("enter", 0)), (("begin", SIDES, (), (True,) * 8),), (None,), ((),))
+    (("begin", SIDES, None, MIX),), (BEGIN, ("fear", (True,))), (BEGIN, ("enter",), ("enter", 0)), (("begin", SIDES, (), (True,) * 8),),
+    (None,), ((),))
 
 
 class LiveEvents(Case):

@@ -6,9 +6,9 @@ from tests import helper, plainly
 from tests.helper import Case, ODD_VALUES
 from tests.plainly import LINE, NEAR_NETS, ROUND, STAR, all_nets, all_wires, ways
 
-WRONG_WAYS = (None, True, 0, "01", [0, 1], (0, 0), (0, 1, 0), (0, 3, 0), (True,), (0, True), (-1,), (6,), (None,), ((0, 1),), (0, 1, 1),
-              [], (0, None),
-              ("0",), ([0],), ({},))
+WRONG_WAYS = (
+    None, True, 0, "01", [0, 1], (0, 0), (0, 1, 0), (0, 3, 0), (True,), (0, True), (-1,), (6,), (None,), ((0, 1),), (0, 1, 1), [],
+    (0, None), ("0",), ([0],), ({},))
 
 
 class Nets(Case):

@@ -11,8 +11,8 @@ from tests.plainly import dealt, gets, saying
 FOUR, SAID = ((0,), (1,), (2,), (3,)), ((0, 0, 1), (1, 0, 1), (0, None, 1), (1, 0, 0))
 NEAR_SAID = (
     [*SAID], SAID[:3], (*SAID, ()), ([0, 0, 1], *SAID[1:]), ((0, 0), *SAID[1:]), ((0, 0, 1, 0), *SAID[1:]), ((0, 0, 2), *SAID[1:]),
-    ((0, 0, True), *SAID[1:]),
-    (*SAID[:3], None), ((0, 0, -1), *SAID[1:]), ((0, 0, "1"), *SAID[1:]), (SAID[0], (False, 0, 1), *SAID[2:]), (*SAID[:3], (1, 0, (0,))))
+    ((0, 0, True), *SAID[1:]), (*SAID[:3], None), ((0, 0, -1), *SAID[1:]), ((0, 0, "1"), *SAID[1:]),
+    (SAID[0], (False, 0, 1), *SAID[2:]), (*SAID[:3], (1, 0, (0,))))
 
 
 def some_fears(many):
